@@ -1,0 +1,1 @@
+"""Pullworks: nets of iterators, pulled very far."""
