@@ -71,3 +71,12 @@ def modulus_of(test):
     if test[0] == "mod":
         return test[1]
     return 1
+
+
+def bound_of(test):
+    """Return the bound in what is known to be a test, None if it has none."""
+    if test[0] == "not":
+        return bound_of(test[1])
+    if test[0] == "mod":
+        return None
+    return test[1]

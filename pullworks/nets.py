@@ -18,6 +18,8 @@ class Net:
         check_nodes(nodes)
         self._nodes = copied(nodes)
         self._places = {node[0]: place for place, node in enumerate(nodes)}
+        # Worked out when it is asked for: see plans.py.
+        self.plan = None
         check_limits(self)
 
     def __eq__(self, other):

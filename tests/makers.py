@@ -59,3 +59,44 @@ def nots(many, test):
     for _ in range(many):
         test = ("not", test)
     return test
+
+
+END = ("end",)
+
+
+def item(value):
+    return ("item", value)
+
+
+def items(*values):
+    """Return the results that are these items."""
+    return [("item", value) for value in values]
+
+
+def error(word="net"):
+    return ("error", word)
+
+
+def row(*values):
+    """Return the kind and parameters of a row."""
+    return ("row", (list(values),))
+
+
+def tower(*kinds):
+    """Return the net of nodes one over the other, with the names a, b, c and so on, and the name of the uppermost one."""
+    nodes = []
+    for at, (kind, parameters) in enumerate(kinds):
+        nodes.append(("abcdefghijklmnopqrstuvwxyz"[at], kind, parameters, [nodes[-1][0]] if nodes else []))
+    return Net(nodes), nodes[-1][0]
+
+
+def join(kind, parameters, *lower):
+    """Return the net of a node "z" over sources with faults: each of lower is a tuple of kinds with parameters."""
+    nodes = []
+    tops = []
+    for at, kinds in enumerate(lower):
+        for number, (below, numbers) in enumerate(kinds):
+            name = "abcdefghij"[at] * (number + 1)
+            nodes.append((name, below, numbers, [nodes[-1][0]] if number else []))
+        tops.append(nodes[-1][0])
+    return Net([*nodes, ("z", kind, parameters, tops)])

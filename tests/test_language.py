@@ -1,6 +1,7 @@
 """The rules of the language that a test can see at a glance: files, imports, names, sizes, and plain statements."""
 
 import ast
+import functools
 import pathlib
 import re
 import unittest
@@ -35,12 +36,25 @@ LIBRARY = {
 }
 
 
+@functools.cache
 def trees():
     return [(path.name, ast.parse(path.read_text("ascii"))) for path in FILES]
 
 
+@functools.cache
+def all_nodes():
+    return [(name, node) for name, tree in trees() for node in ast.walk(tree)]
+
+
 def nodes_of(kind):
-    return [(name, node) for name, tree in trees() for node in ast.walk(tree) if isinstance(node, kind)]
+    return [(name, node) for name, node in all_nodes() if isinstance(node, kind)]
+
+
+@functools.cache
+def global_words():
+    """Return for each file the names of its classes and of what it imports."""
+    return {name: {alias.name for row in tree.body if isinstance(row, ast.ImportFrom) for alias in row.names}
+            | {row.name for row in tree.body if isinstance(row, ast.ClassDef)} for name, tree in trees()}
 
 
 class LanguageTest(unittest.TestCase):
@@ -131,7 +145,20 @@ class LanguageTest(unittest.TestCase):
                 self.assertIn(word, BUILTINS, (name, node.lineno))
             if isinstance(node, ast.arg) or isinstance(node, ast.Name) and isinstance(node.ctx, ast.Store):
                 self.assertNotIn(word, known, (name, node.lineno))
-                self.assertNotIn(word, [row.name for row in ast.walk(dict(trees())[name]) if isinstance(row, ast.alias)])
+                self.assertNotIn(word, global_words()[name], (name, node.lineno))
+
+    def test_methods_and_attributes(self):
+        methods = {node.name for _, one in nodes_of(ast.ClassDef) for node in one.body if isinstance(node, ast.FunctionDef)}
+        stored = {node.attr for _, node in nodes_of(ast.Attribute) if isinstance(node.ctx, ast.Store)}
+        self.assertEqual(methods & stored, set())
+        self.assertEqual(stored & set("items keys values pop update append clear extend insert remove".split()), set())
+        for name, node in nodes_of(ast.Attribute):
+            if isinstance(node.ctx, ast.Load):
+                self.assertIn(node.attr, [*stored, *methods, *METHODS], (name, node.lineno))
+
+    def test_builtins_that_take_lists(self):
+        # A class of the package compares, so no generator expression stands in these.
+        self.assertEqual([(name, node.lineno) for name, node in nodes_of(ast.GeneratorExp)], [])
 
     def test_methods_that_are_called(self):
         own = [node.name for _, node in nodes_of(ast.FunctionDef)]

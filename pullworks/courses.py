@@ -1,0 +1,101 @@
+"""Courses: tapes of numbers that never fall, such as how often a node has been pulled behind each pull on an outlet."""
+
+from math import gcd
+
+from pullworks.lines import first_passing_at, least_of, less, parts, seen_from, side_by_side, sign_turn, value_at
+from pullworks.nets import sources_of
+from pullworks.plans import plan_of
+from pullworks.tapes import Reader, Tape
+
+
+def read_course(net, outlet, source, many):
+    """Return the course of the reads of a source behind each of so many first pulls on an outlet, all answered."""
+    course = Tape()
+    course.give(many, [(1, 1)], [()])
+    found = None
+    for way in read_courses(net, outlet, source, course):
+        # What one port of a split has read is not read again for another one.
+        found = way if found is None else higher_course(found, way)
+    return found
+
+
+def read_courses(net, name, source, course):
+    """Return the courses of the reads of a source, one for each way to it, from the course of the pulls on a node."""
+    plan = plan_of(net)
+    if name == source:
+        return [lower_course(course, plan.tapes[name], 0)]
+    found = []
+    for place, lower in enumerate(plan.inputs[name]):
+        if source in sources_of(net, lower):
+            below = lower_course(course, plan.tapes[name], place)
+            found.extend(read_courses(net, lower, source, below))
+    return found
+
+
+def lower_course(course, tape, place):
+    """Return the course of the pulls on an input of a node, from the course of the pulls on the node and its tape."""
+    found = Tape()
+    for part in course.stretches:
+        done = 0
+        while part.many is None or done < part.many:
+            left = less(part.many, done)
+            lines = seen_from(part.lines, done, left)
+            many = add_within(left, lines, tape, place, found)
+            if many is None:
+                return found
+            done += many
+    return found
+
+
+def add_within(many, lines, tape, place, found):
+    """Add the pulls on an input behind the first of so many numbers of pulls, those in one stretch; return how many."""
+    pulls = lines[0][0]
+    if pulls == 0:
+        number = ahead_of(many, lines, 1)
+        found.give(number, [(0, 0)], [()])
+        return number
+    stretch = tape.stretch_of(pulls - 1)
+    number = many
+    if stretch.many is not None and stretch.what != "end":
+        number = ahead_of(many, lines, stretch.start + stretch.many + 1)
+    lower = used_lines(number, seen_from(lines, 0, number), stretch, place)
+    found.give(number, lower, [()] * len(lower))
+    return number
+
+
+def ahead_of(many, lines, bound):
+    """Return how many of so many numbers stand ahead of the first one that is not below a bound."""
+    found = first_passing_at(many, lines, ("from", bound))
+    return many if found is None else found
+
+
+def used_lines(many, lines, stretch, place):
+    """Return the lines of the pulls on an input behind so many numbers of pulls, all of which end in a stretch."""
+    if stretch.what == "end":
+        # Behind the first end nothing is pulled any more.
+        return [(stretch.used_before.get(place, 0) + stretch.used(place, 1), 0)]
+    growth = lines[0][1]
+    times = len(stretch.uses) // gcd(len(stretch.uses), growth)
+    more = stretch.used(place, growth * times)
+    found = []
+    for at in range(least_of([len(lines) * times, many])):
+        offset = value_at(lines, at) - stretch.start
+        found.append((stretch.used_before.get(place, 0) + stretch.used(place, offset), more))
+    return found
+
+
+def higher_course(one, other):
+    """Return the course of the greater number of two courses, which are equally long."""
+    found = Tape()
+    readers = [Reader(one), Reader(other)]
+    while readers[0].left() != 0 and not found.is_finished():
+        many = least_of([reader.left() for reader in readers])
+        high, low = side_by_side([reader.look(many) for reader in readers], many)
+        turns = [sign_turn(upper[0] - lower[0], upper[1] - lower[1]) for upper, lower in zip(high, low)]
+        turns = [turn for turn in turns if turn is not None]
+        for (number, uppers), (_, lowers) in zip(parts(many, high, turns), parts(many, low, turns)):
+            lines = [upper if upper[0] >= lower[0] else lower for upper, lower in zip(uppers, lowers)]
+            found.give(number, lines, [()] * len(lines))
+        for reader in readers:
+            reader.skip(many)
+    return found

@@ -1,0 +1,100 @@
+"""Places in a schedule: where a pull or a close is done, and how many pulls there are ahead of it.
+
+A place is a tuple (path, number). The path of a step has its index in the schedule and, for each repeat on the way,
+the number of the round and the index in its list. The number tells how many pulls of this step, in this round, are made
+before. Python compares places as they come. If a schedule is repeated for ever, paths begin with the round.
+"""
+
+
+class Stop:
+    """A pull that is never answered: its place, and the name of the node that goes on."""
+
+    def __init__(self, place, name):
+        self.place = place
+        self.name = name
+
+
+def pulls_in(steps, outlet):
+    """Return how many pulls on an outlet there are."""
+    return sum([pulls_of(step, outlet) for step in steps])
+
+
+def pulls_of(step, outlet):
+    """Return how many pulls on an outlet a step makes."""
+    if step[0] == "repeat":
+        return step[1] * pulls_in(step[2], outlet)
+    return step[2] if step[0] == "pull" and step[1] == outlet else 0
+
+
+def pull_place(steps, outlet, pull):
+    """Return the place of the pull with a number on an outlet, None if there are fewer."""
+    left = pull
+    for at, step in enumerate(steps):
+        many = pulls_of(step, outlet)
+        if left >= many:
+            left -= many
+        elif step[0] == "pull":
+            return (at,), left
+        else:
+            path, number = ever_place(step[2], outlet, left)
+            return (at,) + path, number
+    return None
+
+
+def ever_place(steps, outlet, pull):
+    """Return the place of the pull with a number on an outlet in steps that are repeated for ever, None for none."""
+    each = pulls_in(steps, outlet)
+    if each == 0:
+        return None
+    path, number = pull_place(steps, outlet, pull % each)
+    return (pull // each,) + path, number
+
+
+def close_place(steps, outlet):
+    """Return the place where an outlet is closed for the first time, None if it is not."""
+    for at, step in enumerate(steps):
+        if step[0] == "close" and step[1] == outlet:
+            return (at,), 0
+        if step[0] == "repeat" and step[1] > 0:
+            inner = close_place(step[2], outlet)
+            if inner is not None:
+                return (at, 0) + inner[0], 0
+    return None
+
+
+def pulls_ahead(steps, outlet, place):
+    """Return how many pulls on an outlet are made ahead of a place."""
+    path, number = place
+    step = steps[path[0]]
+    before = pulls_in(steps[:path[0]], outlet)
+    if step[0] == "repeat":
+        rounds = path[1] * pulls_in(step[2], outlet)
+        return before + rounds + pulls_ahead(step[2], outlet, (path[2:], number))
+    return before + number if step[0] == "pull" and step[1] == outlet else before
+
+
+def pulls_until_close(steps, outlet):
+    """Return how many pulls on an outlet are made ahead of its first close, None if it is not closed."""
+    close = close_place(steps, outlet)
+    return None if close is None else pulls_ahead(steps, outlet, close)
+
+
+def stop_on(plan, steps, outlet, find):
+    """Return the pull on an outlet that is never answered, None if there is none; find tells the place of a pull."""
+    tape = plan.tapes[outlet]
+    never = tape.stop("never")
+    bound = pulls_until_close(steps, outlet)
+    if never is None or bound is not None and never >= bound:
+        return None
+    place = find(steps, outlet, never)
+    return None if place is None else Stop(place, tape.result(never)[1])
+
+
+def first_stop(plan, steps, find):
+    """Return the first pull that is never answered, None if there is none; find tells the place of a pull."""
+    found = None
+    for outlet in plan.outlets:
+        stop = stop_on(plan, steps, outlet, find)
+        if stop is not None and (found is None or stop.place < found.place):
+            found = stop
+    return found
