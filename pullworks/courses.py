@@ -3,32 +3,51 @@
 from math import gcd
 
 from pullworks.lines import first_passing_at, least_of, less, parts, seen_from, side_by_side, sign_turn, value_at
-from pullworks.nets import sources_of
 from pullworks.plans import plan_of
 from pullworks.tapes import Reader, Tape
 
 
 def read_course(net, outlet, source, many):
     """Return the course of the reads of a source behind each of so many first pulls on an outlet, all answered."""
+    plan = plan_of(net)
+    pulls = node_course(plan, outlet, source, steady_course(1, many))
+    return lower_course(pulls, plan.tapes[source], 0)
+
+
+def source_course(net, outlet, source, many):
+    """Return such a course also for a source from which an outlet does not read."""
+    if source in plan_of(net).below[outlet]:
+        return read_course(net, outlet, source, many)
     course = Tape()
-    course.give(many, [(1, 1)], [()])
+    course.give(many, [(0, 0)], [()])
+    return course
+
+
+def steady_course(first, many):
+    """Return the course of so many numbers from a first one on, each one more than the one before."""
+    course = Tape()
+    course.give(many, [(first, 1)], [()])
+    return course
+
+
+def node_course(plan, outlet, name, course):
+    """Return the course of the pulls on a node, for a split on its tape, from the course of the pulls on an outlet."""
     found = None
-    for way in read_courses(net, outlet, source, course):
+    for way in way_courses(plan, outlet, name, course):
         # What one port of a split has read is not read again for another one.
         found = way if found is None else higher_course(found, way)
     return found
 
 
-def read_courses(net, name, source, course):
-    """Return the courses of the reads of a source, one for each way to it, from the course of the pulls on a node."""
-    plan = plan_of(net)
-    if name == source:
-        return [lower_course(course, plan.tapes[name], 0)]
+def way_courses(plan, upper, name, course):
+    """Return the courses of the pulls on a node, one for each way to it, from the course of those on an upper node."""
+    if upper == name:
+        return [course]
     found = []
-    for place, lower in enumerate(plan.inputs[name]):
-        if source in sources_of(net, lower):
-            below = lower_course(course, plan.tapes[name], place)
-            found.extend(read_courses(net, lower, source, below))
+    for place, lower in enumerate(plan.inputs[upper]):
+        if name in plan.below[lower]:
+            below = lower_course(course, plan.tapes[upper], place)
+            found.extend(way_courses(plan, lower, name, below))
     return found
 
 

@@ -2,15 +2,17 @@
 
 A place is a tuple (path, number). The path of a step has its index in the schedule and, for each repeat on the way,
 the number of the round and the index in its list. The number tells how many pulls of this step, in this round, are made
-before. Python compares places as they come. If a schedule is repeated for ever, paths begin with the round.
+before; it is 1 right behind a close. A path that ends with the index of a repeat stands for what is ahead of it. Python
+compares places as they come. If a schedule is repeated for ever, paths begin with the round.
 """
 
 
 class Stop:
-    """A pull that is never answered: its place, and the name of the node that goes on."""
+    """A pull that is never answered: its place, the outlet, and the name of the node that goes on."""
 
-    def __init__(self, place, name):
+    def __init__(self, place, outlet, name):
         self.place = place
+        self.outlet = outlet
         self.name = name
 
 
@@ -67,6 +69,8 @@ def pulls_ahead(steps, outlet, place):
     path, number = place
     step = steps[path[0]]
     before = pulls_in(steps[:path[0]], outlet)
+    if step[0] == "repeat" and len(path) == 1:
+        return before
     if step[0] == "repeat":
         rounds = path[1] * pulls_in(step[2], outlet)
         return before + rounds + pulls_ahead(step[2], outlet, (path[2:], number))
@@ -87,7 +91,7 @@ def stop_on(plan, steps, outlet, find):
     if never is None or bound is not None and never >= bound:
         return None
     place = find(steps, outlet, never)
-    return None if place is None else Stop(place, tape.result(never)[1])
+    return None if place is None else Stop(place, outlet, tape.result(never)[1])
 
 
 def first_stop(plan, steps, find):
@@ -98,3 +102,75 @@ def first_stop(plan, steps, find):
         if stop is not None and (found is None or stop.place < found.place):
             found = stop
     return found
+
+
+def closes_in(steps, outlet):
+    """Return how many closes of an outlet there are."""
+    return sum([closes_of(step, outlet) for step in steps])
+
+
+def closes_of(step, outlet):
+    """Return how many closes of an outlet a step makes."""
+    if step[0] == "repeat":
+        return step[1] * closes_in(step[2], outlet)
+    return 1 if step[0] == "close" and step[1] == outlet else 0
+
+
+def closes_ahead(steps, outlet, place):
+    """Return how many closes of an outlet are made ahead of a place."""
+    path, number = place
+    step = steps[path[0]]
+    before = closes_in(steps[:path[0]], outlet)
+    if step[0] == "repeat" and len(path) == 1:
+        return before
+    if step[0] == "repeat":
+        rounds = path[1] * closes_in(step[2], outlet)
+        return before + rounds + closes_ahead(step[2], outlet, (path[2:], number))
+    return before + (number if step[0] == "close" and step[1] == outlet else 0)
+
+
+def place_of_close(steps, outlet, index):
+    """Return the place of the close of an outlet with an index among these, None if there are fewer."""
+    left = index
+    for at, step in enumerate(steps):
+        many = closes_of(step, outlet)
+        if left >= many:
+            left -= many
+        elif step[0] == "close":
+            return (at,), 0
+        else:
+            each = closes_in(step[2], outlet)
+            path, number = place_of_close(step[2], outlet, left % each)
+            return (at, left // each) + path, number
+    return None
+
+
+def steps_from(steps, path, number):
+    """Yield (path, number, step) for the pulls and closes from a place on, in order."""
+    start = path[0] if path else 0
+    for at in range(start, len(steps)):
+        step = steps[at]
+        rest = path[1:] if at == start else ()
+        first = number if at == start else 0
+        if step[0] == "close" and first == 0:
+            yield (at,), 0, step
+        elif step[0] == "pull":
+            for done in range(first, step[2]):
+                yield (at,), done, step
+        elif step[0] == "repeat" and does_anything(step[2]):
+            inner = step[2]
+            for turn in range(rest[0] if rest else 0, step[1]):
+                for lower, done, what in steps_from(inner, rest[1:], first):
+                    yield (at, turn) + lower, done, what
+                rest = ()
+                first = 0
+
+
+def does_anything(steps):
+    """Tell whether steps make any pull or close."""
+    for step in steps:
+        if step[0] == "close" or step[0] == "pull" and step[2] > 0:
+            return True
+        if step[0] == "repeat" and step[1] > 0 and does_anything(step[2]):
+            return True
+    return False

@@ -12,7 +12,7 @@ from pullworks.tapes import Tape
 def plan_of(net):
     """Return the plan of a net; a net never changes, so its plan is kept with it."""
     if net.plan is None:
-        net.plan = Plan(net)
+        net.plan = Plan(net.node_list(), outlets(net))
     return net.plan
 
 
@@ -36,20 +36,22 @@ def tape_of(node, lower):
 
 
 class Plan:
-    """The tapes of a net, the uses of its nodes as inputs, and for each node the moments of notes.
+    """The tapes of a net, the uses of its nodes as inputs, and for each node what is below, and the moments of notes.
 
     The moments of a node are tuples (pull, closing node), in the order in which the closing nodes below it, and itself,
     would write their notes if it was pulled alone and each port had a copy of its own of all that its split reads from.
     """
 
-    def __init__(self, net):
-        self.nodes = net.node_list()
-        self.outlets = outlets(net)
+    def __init__(self, nodes, names):
+        self.nodes = nodes
+        self.outlets = names
         self.kinds = {node[0]: node[1] for node in self.nodes}
+        self.parameters = {node[0]: node[2] for node in self.nodes}
         self.inputs = {node[0]: node[3] for node in self.nodes}
         self.tapes = {}
         self.users = {node[0]: [] for node in self.nodes}
         self.moments = {}
+        self.below = {}
         for node in self.nodes:
             self.set_up(node)
 
@@ -60,6 +62,9 @@ class Plan:
         for place, lower in enumerate(inputs):
             self.users[lower].append((name, place))
         self.moments[name] = moments_of(node, self.tapes[name], [self.moments[lower] for lower in inputs])
+        self.below[name] = {name: True}
+        for lower in inputs:
+            self.below[name].update(self.below[lower])
 
     def pulls_within(self, pulls):
         """Return the number of pulls on each node for a number of pulls on each outlet; for a split, on its tape."""
@@ -81,6 +86,16 @@ class Plan:
         # The error of such a node is its last result ahead of the end, and it is ended already behind the error.
         dead = self.kinds[name] in ("dying", "closing") and tape.errors_in(end) > 0
         return end if dead else end + 1
+
+    def note_pull(self, name):
+        """Return the pull in which a closing node writes its note by itself, None if it never does."""
+        stretches = self.tapes[name].stretches
+        return min([stretch.start for stretch in stretches if stretch.what in ("error", "end")], default=None)
+
+    def error_pull(self, name):
+        """Return the pull in which a fault raises its error, None if it ends before, or never comes there."""
+        number = self.parameters[name][0]
+        return number if self.tapes[name].stretch_of(number).what == "error" else None
 
     def pulls_by(self, user, place, pulls):
         """Return how often a node has pulled one of its inputs."""

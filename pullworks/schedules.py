@@ -61,7 +61,11 @@ def nesting(steps):
 def run(net, steps):
     """Return a machine that has done the steps of a schedule."""
     check_schedule(net, steps)
-    plan = plan_of(net)
+    return machine_in(net, end_state(plan_of(net), steps))
+
+
+def end_state(plan, steps):
+    """Return the state of a machine that has done the steps of a schedule."""
     stop = first_stop(plan, steps, pull_place)
     state = State(plan)
     for _, outlet, closing in changes(plan, steps, stop):
@@ -73,7 +77,7 @@ def run(net, steps):
         state.pulls[outlet] = pulls_on_tape(steps, outlet, stop)
     if stop is not None:
         state.looping = stop.name
-    return machine_in(net, state)
+    return state
 
 
 def changes(plan, steps, stop):
@@ -93,6 +97,20 @@ def changes(plan, steps, stop):
     # The moments within one pull stay in their order.
     found = sorted(found, key=lambda change: change[0])
     return [change for change in found if stop is None or change[0] <= stop.place]
+
+
+def written(plan, steps):
+    """Return (place, closing node) for the notes that the steps write, in order."""
+    state = State(plan)
+    found = []
+    for place, outlet, closing in changes(plan, steps, first_stop(plan, steps, pull_place)):
+        before = len(state.writers)
+        if closing is None:
+            state.close(outlet)
+        else:
+            state.write(closing)
+        found.extend([(place, name) for name in state.writers[before:]])
+    return found
 
 
 def pulls_done(steps, outlet, stop):

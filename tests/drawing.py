@@ -1,6 +1,6 @@
 """Nets, schedules and calls that are drawn from a source of numbers with a fixed beginning."""
 
-from pullworks.errors import LimitExceeded
+from pullworks.errors import InvalidNet, LimitExceeded
 from pullworks.nets import Net
 
 NAMES = "abcdefghijklmnopqrstuvwxyz"
@@ -165,3 +165,33 @@ def unrolled(steps, path=()):
         else:
             for number in range(1 if step[0] == "close" else step[2]):
                 yield (*path, at), number, step[0], step[1]
+
+
+def splitting_nodes(draw):
+    """Return nodes with splits above splits, and several ports of one user among them."""
+    nodes = [("a", draw.choice(("count", "count", "span", "row")), (), [])]
+    nodes[0] = ("a", nodes[0][1], parameters_of(draw, nodes[0][1]), [])
+    splits = []
+    top = "a"
+    for _ in range(draw.choice((1, 1, 2, 3))):
+        if draw.random() < 0.5:
+            kind = draw.choice(SINGLES)
+            nodes.append((NAMES[len(nodes)], kind, parameters_of(draw, kind), [top]))
+            top = nodes[-1][0]
+        nodes.append((NAMES[len(nodes)], "split", (), [top]))
+        top = nodes[-1][0]
+        splits.append(top)
+    for name in [splits[-1], *splits, *draw.choices(splits, k=draw.randint(0, 2))]:
+        kind = draw.choice((*SINGLES, *SINGLES, "zip", "chain", "turns"))
+        lower = [name] if kind in SINGLES else [name, draw.choice(splits)]
+        nodes.append((NAMES[len(nodes)], kind, parameters_of(draw, kind), lower))
+    return nodes
+
+
+def splitting_net(draw):
+    """Return a net with splits that keeps the limits."""
+    while True:
+        try:
+            return Net(splitting_nodes(draw))
+        except (LimitExceeded, InvalidNet):
+            continue

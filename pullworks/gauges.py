@@ -1,0 +1,120 @@
+"""What the ports of a split have been given by the pulls on each outlet, and steps that are gone through."""
+
+from math import gcd, lcm
+
+from pullworks.courses import lower_course, node_course, steady_course
+from pullworks.lines import least_of, less
+from pullworks.places import pulls_in
+from pullworks.tapes import Tape
+
+
+class Gauge:
+    """For each outlet that reads from a split the courses of its ports: how many results they have been given.
+
+    The item number n of a course is the number behind n pulls on the outlet, the end not counted. A port to which no
+    way leads from the outlet has None in the place of its course.
+    """
+
+    def __init__(self, plan, split):
+        self.plan = plan
+        self.split = split
+        self.ports = plan.users[split]
+        self.courses = {}
+        for outlet in plan.outlets:
+            if split in plan.below[outlet]:
+                self.courses[outlet] = [self.port_course(outlet, user, place) for user, place in self.ports]
+        self.rivals = {outlet: self.rivals_of(outlet) for outlet in self.courses}
+
+    def port_course(self, outlet, user, place):
+        """Return the course of a port for the pulls on an outlet, None if no way leads there."""
+        if user not in self.plan.below[outlet]:
+            return None
+        never = self.plan.tapes[outlet].stop("never")
+        pulls = steady_course(0, None if never is None else never + 1)
+        course = lower_course(node_course(self.plan, outlet, user, pulls), self.plan.tapes[user], place)
+        return capped(course, self.plan.tapes[self.split].stop("end"))
+
+    def rivals_of(self, outlet):
+        """Return (other outlet, index of a port) for the ports that an outlet and other ones pull."""
+        found = []
+        for at, course in enumerate(self.courses[outlet]):
+            others = [other for other in self.courses if other != outlet and self.courses[other][at] is not None]
+            found.extend([(other, at) for other in others if course is not None])
+        return found
+
+    def heights(self, outlet, pulls):
+        """Return what each port has been given behind so many pulls on an outlet alone."""
+        return [0 if course is None else course.result(pulls)[1] for course in self.courses[outlet]]
+
+
+def capped(course, bound):
+    """Return a course that stays at a bound, if there is one, as soon as it has come there."""
+    found = Tape()
+    for stretch in course.stretches:
+        many = stretch.many if bound is None else first_from(stretch, bound)
+        found.give(many, stretch.lines, stretch.uses)
+        rest = None if many is None else less(stretch.many, many)
+        if rest != 0 and many is not None:
+            found.give(rest, [(bound, 0)], [()])
+    found.settle()
+    return found
+
+
+def first_from(stretch, bound):
+    """Return the number of the first item of a stretch of a course that is not below a bound, or how many there are."""
+    found = stretch.many
+    for place, (value, growth) in enumerate(stretch.lines):
+        if value >= bound:
+            found = least_of([found, place])
+        elif growth > 0:
+            found = least_of([found, (bound - value + growth - 1) // growth * len(stretch.lines) + place])
+    return found
+
+
+class Block:
+    """Steps that are gone through one after another.
+
+    Each part is a tuple (word, outlet, many, block): pulls of a step and rounds of a repeat are rounds of a block.
+    """
+
+    def __init__(self, steps, names):
+        self.parts = [part_of(step, names) for step in steps]
+        self.growth = {name: pulls_in(steps, name) for name in names}
+        self.pulled = [(name, self.growth[name]) for name in names if self.growth[name] > 0]
+        self.each = sum([each for _, each in self.pulled])
+        self.shut = shut_by(steps)
+
+
+def part_of(step, names):
+    """Return the part of a block that does a step."""
+    if step[0] == "close":
+        return "close", step[1], 1, None
+    if step[0] == "repeat":
+        return "repeat", None, step[1], Block(step[2], names)
+    if step[2] == 1:
+        return "pull", step[1], 1, None
+    return "pull", step[1], step[2], Block([("pull", step[1], 1)], names)
+
+
+def shut_by(steps):
+    """Return a list of the names of the outlets that are closed by steps."""
+    found = []
+    for step in steps:
+        if step[0] == "close":
+            found.append(step[1])
+        elif step[0] == "repeat" and step[1] > 0:
+            found.extend(shut_by(step[2]))
+    return found
+
+
+def rounds_to_come_back(size, each):
+    """Return behind how many rounds of so many pulls a line is met again that is one of so many."""
+    return size // gcd(size, each)
+
+
+def common_rounds(numbers):
+    """Return the least common multiple of a list of integers."""
+    found = 1
+    for number in numbers:
+        found = lcm(found, number)
+    return found
