@@ -12,8 +12,11 @@ from pullworks.errors import InvalidCall, InvalidEvent, LimitExceeded
 from pullworks.events import count_events, event_at, event_count, event_of, events_from, state_behind
 from pullworks.failing import ended_nodes, error_places, exposure, note_places, raised
 from pullworks.nets import Net, outlets
+from pullworks.playing import Playing, replay
+from pullworks.rules import keeps, normal, sites
 from pullworks.schedules import check_schedule
 from pullworks.splits import best_order, endless_size, first_above, greatest_size, order_size, places, pulls_within
+from pullworks.texts import format_net, parse_net
 
 
 def port(name, lower, kind="scale", parameters=(1, 0)):
@@ -122,6 +125,27 @@ class SchedulesTest(unittest.TestCase):
                 self.in_time(events_from, net, steps, 10 ** 29, 1000, what=number)
                 self.in_time(event_of, net, steps, "read", source, 10 ** 28, what=number)
             self.in_time(same_results, net, net, what=number)
+
+    def test_playings(self):
+        for number, net in enumerate(heavy_nets() + heavy_splits()):
+            names = outlets(net)
+            breaks = [("read", net.node_list()[0][0], FAR), ("item", ("below", -FAR)), ("note",), ("error",)] * 5
+            playing = Playing(net)
+            self.in_time(playing.set_breaks, breaks, what=number)
+            for at in range(30):
+                self.in_time(playing.go, names[at % len(names)], 10 ** 28, what=number)
+            self.in_time(replay, net, playing.log() * 31, what=number)
+
+    def test_chains_of_thirty_nodes(self):
+        for kind, parameters in (("scale", (-1, 1)), ("take", (5,))):
+            nodes = [("a", "count", (0, 1), [])]
+            for at in range(29):
+                nodes.append(("n" + "abcdefghijklmnopqrstuvwxyz"[at % 26] * (1 + at // 26), kind, parameters, [nodes[-1][0]]))
+            net = Net(nodes)
+            self.assertEqual(len(self.in_time(normal, net, what=kind)), 2)
+            self.assertEqual(self.in_time(parse_net, format_net(net), what=kind), net)
+            for name in sites(net, kind + "s"):
+                self.assertEqual(self.in_time(keeps, net, kind + "s", name, what=kind), (True, True))
 
     def test_nets_compared_near_the_limit(self):
         rings = [Net([("a", "ring", (list(range(many)),), []), ("b", "stutter", (1,), ["a"])]) for many in (100, 49)]

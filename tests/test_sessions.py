@@ -34,7 +34,7 @@ def answer_of(entered):
 class SessionsTest(unittest.TestCase):
 
     def test_all_sessions(self):
-        self.assertEqual(len(sessions()), 56)
+        self.assertEqual(len(sessions()), 74)
         for name, entered, wanted in sessions():
             with self.subTest(name):
                 found = answer_of(entered)
