@@ -5,7 +5,7 @@ A place is that of places.py; steps of pulls and closes have places, and so does
 
 from pullworks.moments import counts_behind, reads_by
 from pullworks.kinds import SOURCES
-from pullworks.places import close_place, closes_ahead, closes_in, first_stop, pull_place, pulls_ahead, pulls_in
+from pullworks.places import close_place, first_stop, many_ahead, many_in, pull_place, pulls_ahead
 from pullworks.schedules import end_state, written
 
 
@@ -40,7 +40,7 @@ class Chronicle:
         counts = self.plan.pulls_within(self.pulls_at(place))
         many = sum([self.plan.tapes[source].used(0, counts[source]) for source in self.sources])
         for outlet in self.plan.outlets:
-            many += pulls_ahead(self.steps, outlet, place) + closes_ahead(self.steps, outlet, place)
+            many += sum([many_ahead(self.steps, word, outlet, place) for word in ("pull", "close")])
         return many + len(self.notes_at(place))
 
     def notes_at(self, place):
@@ -96,21 +96,15 @@ class Chronicle:
         counts = counts_behind(self.plan, self.last.pulls, None if self.stuck_at is None else self.stuck_at.outlet)
         return reads_by(self.plan, source, counts)
 
-    def pulls_in_all(self, outlet):
-        """Return how many pulls on an outlet are answered."""
+    def many_in_all(self, word, outlet):
+        """Return how many pulls on an outlet are answered, or how often it is closed, as the word says."""
         if self.stuck_at is None:
-            return pulls_in(self.steps, outlet)
-        return pulls_ahead(self.steps, outlet, self.stuck_at.place)
-
-    def closes_in_all(self, outlet):
-        """Return how often an outlet is closed."""
-        if self.stuck_at is None:
-            return closes_in(self.steps, outlet)
-        return closes_ahead(self.steps, outlet, self.stuck_at.place)
+            return many_in(self.steps, word, outlet)
+        return many_ahead(self.steps, word, outlet, self.stuck_at.place)
 
     def many_events(self):
         """Return how many events there are, of which there is an end."""
         many = sum([self.reads_in_all(source) for source in self.sources]) + len(self.note_list)
         for outlet in self.plan.outlets:
-            many += self.pulls_in_all(outlet) + self.closes_in_all(outlet)
+            many += self.many_in_all("pull", outlet) + self.many_in_all("close", outlet)
         return many

@@ -4,7 +4,7 @@ from pullworks.checks import FAR
 from pullworks.chronicles import Chronicle
 from pullworks.errors import InvalidBound, InvalidEvent, InvalidName
 from pullworks.kinds import SOURCES
-from pullworks.places import place_of_close, pull_place, steps_from
+from pullworks.places import place_of, pull_place, steps_from
 from pullworks.plans import plan_of
 from pullworks.schedules import check_schedule
 from pullworks.walks import Walk
@@ -68,7 +68,8 @@ def walk_at(chronicle, place):
 def walk_on(chronicle, walk, place):
     """Go on with the steps from a place on until all events are found, or there are no more."""
     closed = {outlet: True for outlet in chronicle.plan.outlets if is_ahead(chronicle.closes[outlet], place)}
-    for path, number, step in steps_from(chronicle.steps, place[0], place[1]):
+    start, ahead = place
+    for path, number, step in steps_from(chronicle.steps, start, ahead):
         if walk.is_full():
             return
         outlet = step[1]
@@ -114,7 +115,7 @@ def many_of(chronicle, sort, name):
         return chronicle.reads_in_all(name)
     if sort == "note":
         return len(noted(chronicle, name))
-    return chronicle.pulls_in_all(name) if sort == "given" else chronicle.closes_in_all(name)
+    return chronicle.many_in_all("pull" if sort == "given" else "close", name)
 
 
 def noted(chronicle, note):
@@ -138,7 +139,7 @@ def event_of(net, steps, sort, name, index):
         place, closing = noted(chronicle, name)[index]
         return note_at(chronicle, place, closing)
     if sort == "closed":
-        return chronicle.events_at(place_of_close(steps, name, index)), ("closed", name)
+        return chronicle.events_at(place_of(steps, "close", name, index)), ("closed", name)
     path, number = pull_place(steps, name, index)
     closed = is_ahead(chronicle.closes[name], (path, number))
     result = ("end",) if closed else plan.tapes[name].result(index)

@@ -16,65 +16,80 @@ class Stop:
         self.name = name
 
 
-def pulls_in(steps, outlet):
-    """Return how many pulls on an outlet there are."""
-    return sum([pulls_of(step, outlet) for step in steps])
+def many_in(steps, word, outlet):
+    """Return how many pulls on an outlet, or closes of it, as the word says, there are."""
+    return sum([many_of(step, word, outlet) for step in steps])
 
 
-def pulls_of(step, outlet):
-    """Return how many pulls on an outlet a step makes."""
+def many_of(step, word, outlet):
+    """Return how many pulls on an outlet, or closes of it, a step makes."""
     if step[0] == "repeat":
-        return step[1] * pulls_in(step[2], outlet)
-    return step[2] if step[0] == "pull" and step[1] == outlet else 0
+        return step[1] * many_in(step[2], word, outlet)
+    if step[0] != word or step[1] != outlet:
+        return 0
+    return step[2] if word == "pull" else 1
 
 
-def pull_place(steps, outlet, pull):
-    """Return the place of the pull with a number on an outlet, None if there are fewer."""
-    left = pull
+def many_ahead(steps, word, outlet, place):
+    """Return how many pulls on an outlet, or closes of it, are made ahead of a place."""
+    path, number = place
+    step = steps[path[0]]
+    before = many_in(steps[:path[0]], word, outlet)
+    if step[0] != "repeat":
+        return before + number if step[0] == word and step[1] == outlet else before
+    if len(path) == 1:
+        return before
+    rounds = path[1] * many_in(step[2], word, outlet)
+    return before + rounds + many_ahead(step[2], word, outlet, (path[2:], number))
+
+
+def place_of(steps, word, outlet, index):
+    """Return the place of the pull on an outlet, or the close of it, with an index, None if there are fewer."""
+    left = index
     for at, step in enumerate(steps):
-        many = pulls_of(step, outlet)
+        many = many_of(step, word, outlet)
         if left >= many:
             left -= many
-        elif step[0] == "pull":
+        elif step[0] != "repeat":
             return (at,), left
         else:
-            path, number = ever_place(step[2], outlet, left)
+            path, number = place_for_ever(step[2], word, outlet, left)
             return (at,) + path, number
     return None
 
 
-def ever_place(steps, outlet, pull):
-    """Return the place of the pull with a number on an outlet in steps that are repeated for ever, None for none."""
-    each = pulls_in(steps, outlet)
+def place_for_ever(steps, word, outlet, index):
+    """Return such a place in steps that are repeated for ever."""
+    each = many_in(steps, word, outlet)
     if each == 0:
         return None
-    path, number = pull_place(steps, outlet, pull % each)
-    return (pull // each,) + path, number
+    path, number = place_of(steps, word, outlet, index % each)
+    return (index // each,) + path, number
 
 
-def close_place(steps, outlet):
-    """Return the place where an outlet is closed for the first time, None if it is not."""
-    for at, step in enumerate(steps):
-        if step[0] == "close" and step[1] == outlet:
-            return (at,), 0
-        if step[0] == "repeat" and step[1] > 0:
-            inner = close_place(step[2], outlet)
-            if inner is not None:
-                return (at, 0) + inner[0], 0
-    return None
+def pulls_in(steps, outlet):
+    """Return how many pulls on an outlet there are."""
+    return many_in(steps, "pull", outlet)
 
 
 def pulls_ahead(steps, outlet, place):
     """Return how many pulls on an outlet are made ahead of a place."""
-    path, number = place
-    step = steps[path[0]]
-    before = pulls_in(steps[:path[0]], outlet)
-    if step[0] == "repeat" and len(path) == 1:
-        return before
-    if step[0] == "repeat":
-        rounds = path[1] * pulls_in(step[2], outlet)
-        return before + rounds + pulls_ahead(step[2], outlet, (path[2:], number))
-    return before + number if step[0] == "pull" and step[1] == outlet else before
+    return many_ahead(steps, "pull", outlet, place)
+
+
+def pull_place(steps, outlet, pull):
+    """Return the place of the pull with a number on an outlet, None if there are fewer."""
+    return place_of(steps, "pull", outlet, pull)
+
+
+def ever_place(steps, outlet, pull):
+    """Return the place of the pull with a number on an outlet in steps that are repeated for ever, None for none."""
+    return place_for_ever(steps, "pull", outlet, pull)
+
+
+def close_place(steps, outlet):
+    """Return the place where an outlet is closed for the first time, None if it is not."""
+    return place_of(steps, "close", outlet, 0)
 
 
 def pulls_until_close(steps, outlet):
@@ -104,47 +119,6 @@ def first_stop(plan, steps, find):
     return found
 
 
-def closes_in(steps, outlet):
-    """Return how many closes of an outlet there are."""
-    return sum([closes_of(step, outlet) for step in steps])
-
-
-def closes_of(step, outlet):
-    """Return how many closes of an outlet a step makes."""
-    if step[0] == "repeat":
-        return step[1] * closes_in(step[2], outlet)
-    return 1 if step[0] == "close" and step[1] == outlet else 0
-
-
-def closes_ahead(steps, outlet, place):
-    """Return how many closes of an outlet are made ahead of a place."""
-    path, number = place
-    step = steps[path[0]]
-    before = closes_in(steps[:path[0]], outlet)
-    if step[0] == "repeat" and len(path) == 1:
-        return before
-    if step[0] == "repeat":
-        rounds = path[1] * closes_in(step[2], outlet)
-        return before + rounds + closes_ahead(step[2], outlet, (path[2:], number))
-    return before + (number if step[0] == "close" and step[1] == outlet else 0)
-
-
-def place_of_close(steps, outlet, index):
-    """Return the place of the close of an outlet with an index among these, None if there are fewer."""
-    left = index
-    for at, step in enumerate(steps):
-        many = closes_of(step, outlet)
-        if left >= many:
-            left -= many
-        elif step[0] == "close":
-            return (at,), 0
-        else:
-            each = closes_in(step[2], outlet)
-            path, number = place_of_close(step[2], outlet, left % each)
-            return (at, left // each) + path, number
-    return None
-
-
 def steps_from(steps, path, number):
     """Yield (path, number, step) for the pulls and closes from a place on, in order."""
     start = path[0] if path else 0
@@ -160,7 +134,8 @@ def steps_from(steps, path, number):
         elif step[0] == "repeat" and does_anything(step[2]):
             inner = step[2]
             for turn in range(rest[0] if rest else 0, step[1]):
-                for lower, done, what in steps_from(inner, rest[1:], first):
+                tail = rest[1:]
+                for lower, done, what in steps_from(inner, tail, first):
                     yield (at, turn) + lower, done, what
                 rest = ()
                 first = 0

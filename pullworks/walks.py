@@ -163,6 +163,8 @@ class Walk:
         """Return how many pulls on an input can be passed at once, without an event that is looked for in them."""
         if most == 0 or not self.is_quiet(name, place, 1):
             return 0
+        if most is not None and self.is_quiet(name, place, most):
+            return most
         low = 1
         high = 2
         while (most is None or high <= most) and self.is_quiet(name, place, high):
