@@ -1,8 +1,6 @@
 """Nodes with one input, one over the other, over a list of results."""
 
-from pullworks.courses import lower_course, steady_course
 from pullworks.kinds import are_parameters, input_range, is_kind
-from pullworks.likeness import as_numbers
 from pullworks.nets import Net
 from pullworks.plans import tape_of
 from pullworks.tapes import ONE, Tape
@@ -74,8 +72,30 @@ def chain_tapes(chain, row):
 
 
 def chain_reads(chain, row):
-    """Return the course of the reads of a row behind each pull on the last node of a chain over it."""
-    course = steady_course(1, None)
-    for tape in chain_tapes(chain, row)[::-1]:
-        course = lower_course(course, tape, 0)
-    return as_numbers(course)
+    """Return how often a row has been read behind each pull on the last node of a chain, up to the first end."""
+    tapes = chain_tapes(chain, row)[::-1]
+    # Over so short a row there are not many pulls up to the end, so they are gone through one by one.
+    counts = list(range(1, tapes[0].stop("end") + 2))
+    for tape in tapes:
+        # No node pulls an input that has ended.
+        used = pulls_on_input(tape)
+        counts = [used[count] for count in counts]
+    return counts
+
+
+def pulls_on_input(tape):
+    """Return the number of pulls on the only input in the first 0, 1, 2 and so on pulls, up to the first end."""
+    found = [0]
+    for stretch in tape.stretches:
+        for number in range(stretch.many):
+            use = stretch.uses[number % len(stretch.uses)]
+            found.append(found[-1] + use[0][1] if use else found[-1])
+    return found
+
+
+def first_unlike_count(one, other):
+    """Return the first place at which two lists, the last counts of which go on for ever, are unlike, or None."""
+    for place in range(max(len(one), len(other))):
+        if one[min(place, len(one) - 1)] != other[min(place, len(other) - 1)]:
+            return place
+    return None

@@ -1,8 +1,8 @@
 """Courses: tapes of numbers that never fall, such as how often a node has been pulled behind each pull on an outlet."""
 
-from math import gcd
+from math import gcd, lcm
 
-from pullworks.lines import first_passing_at, least_of, less, parts, seen_from, side_by_side, sign_turn, value_at
+from pullworks.lines import first_passing_at, least_of, less, parts, seen_from, side_by_side, sign_turn
 from pullworks.plans import plan_of
 from pullworks.tapes import Reader, Tape
 
@@ -83,24 +83,42 @@ def add_within(many, lines, tape, place, found):
 
 
 def ahead_of(many, lines, bound):
-    """Return how many of so many numbers stand ahead of the first one that is not below a bound."""
-    found = first_passing_at(many, lines, ("from", bound))
-    return many if found is None else found
+    """Return how many of so many numbers, which never fall, stand ahead of the first one that is not below a bound."""
+    if many is None or many > len(lines):
+        found = first_passing_at(many, lines, ("from", bound))
+        return many if found is None else found
+    low = 0
+    high = many
+    while low < high:
+        middle = (low + high) // 2
+        if lines[middle][0] >= bound:
+            high = middle
+        else:
+            low = middle + 1
+    return low
 
 
 def used_lines(many, lines, stretch, place):
     """Return the lines of the pulls on an input behind so many numbers of pulls, all of which end in a stretch."""
+    before = stretch.used_before.get(place, 0)
     if stretch.what == "end":
         # Behind the first end nothing is pulled any more.
-        return [(stretch.used_before.get(place, 0) + stretch.used(place, 1), 0)]
-    growth = lines[0][1]
-    times = len(stretch.uses) // gcd(len(stretch.uses), growth)
-    more = stretch.used(place, growth * times)
+        return [(before + stretch.used(place, 1), 0)]
+    if place not in stretch.sums:
+        return [(before, 0)]
+    sums = stretch.sums[place]
+    size = len(stretch.uses)
+    times = 1
+    # Where one way to a node overtakes another one, lines that grow unlike may stand side by side.
+    for growth in sorted(set([growth for _, growth in lines])):
+        times = lcm(times, size // gcd(size, growth))
+    number = least_of([len(lines) * times, many])
     found = []
-    for at in range(least_of([len(lines) * times, many])):
-        offset = value_at(lines, at) - stretch.start
-        found.append((stretch.used_before.get(place, 0) + stretch.used(place, offset), more))
-    return found
+    for turn in range(number // len(lines) + 1):
+        for value, growth in lines:
+            rounds, rest = divmod(value + turn * growth - stretch.start, size)
+            found.append((before + rounds * sums[-1] + sums[rest], growth * times // size * sums[-1]))
+    return found[:number]
 
 
 def higher_course(one, other):

@@ -2,8 +2,8 @@
 
 from math import gcd, lcm
 
-from pullworks.courses import lower_course, node_course, steady_course
-from pullworks.lines import least_of, less
+from pullworks.courses import ahead_of, lower_course, node_course, steady_course
+from pullworks.lines import less
 from pullworks.places import pulls_in
 from pullworks.tapes import Tape
 
@@ -42,6 +42,11 @@ class Gauge:
             found.extend([(other, at) for other in others if course is not None])
         return found
 
+    def is_even(self, outlet, at, pulls):
+        """Tell whether a port grows alike on all lines among which it is behind so many pulls on an outlet."""
+        lines = self.courses[outlet][at].stretch_of(pulls).lines
+        return all([growth == lines[0][1] for _, growth in lines])
+
     def heights(self, outlet, pulls):
         """Return what each port has been given behind so many pulls on an outlet alone."""
         return [0 if course is None else course.result(pulls)[1] for course in self.courses[outlet]]
@@ -51,23 +56,12 @@ def capped(course, bound):
     """Return a course that stays at a bound, if there is one, as soon as it has come there."""
     found = Tape()
     for stretch in course.stretches:
-        many = stretch.many if bound is None else first_from(stretch, bound)
+        many = stretch.many if bound is None else ahead_of(stretch.many, stretch.lines, bound)
         found.give(many, stretch.lines, stretch.uses)
         rest = None if many is None else less(stretch.many, many)
         if rest != 0 and many is not None:
             found.give(rest, [(bound, 0)], [()])
     found.settle()
-    return found
-
-
-def first_from(stretch, bound):
-    """Return the number of the first item of a stretch of a course that is not below a bound, or how many there are."""
-    found = stretch.many
-    for place, (value, growth) in enumerate(stretch.lines):
-        if value >= bound:
-            found = least_of([found, place])
-        elif growth > 0:
-            found = least_of([found, (bound - value + growth - 1) // growth * len(stretch.lines) + place])
     return found
 
 

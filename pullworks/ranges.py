@@ -11,7 +11,7 @@ NUMBERED = ("take", "drop", "step", "batch", "stutter", "ahead", "fault")
 
 TESTED = ("keep", "until", "after")
 
-# All values from one on, up to the bound of the parameter, and all values at all.
+# Beyond the bounds of all parameters.
 ANY_LOW = -10 ** 31
 ANY_HIGH = 10 ** 31
 

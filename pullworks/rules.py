@@ -1,6 +1,6 @@
 """Rules that replace a node and its input by others, and what they keep; chains that a row of items tells apart."""
 
-from pullworks.chains import chain_reads, chain_tapes, check_chain_net, is_chain, rows_of
+from pullworks.chains import chain_reads, chain_tapes, check_chain_net, first_unlike_count, is_chain, rows_of
 from pullworks.comparing import check_both, first_unlike_reads
 from pullworks.errors import InvalidName, InvalidRecord, InvalidRule, LimitExceeded
 from pullworks.kinds import SOURCES, are_parameters
@@ -192,7 +192,7 @@ def telling_reads(one, other, items, most):
     """Return the first row for which two chains have read unlike numbers, and the first such pull; None for no row."""
     check_rows(one, other, items, most)
     for row in rows_of(items, most):
-        number = first_unlike(chain_reads(one, row), chain_reads(other, row), 0)
+        number = first_unlike_count(chain_reads(one, row), chain_reads(other, row))
         if number is not None:
             return row, number
     return None

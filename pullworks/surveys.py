@@ -203,8 +203,14 @@ class Survey:
             for other, at in self.gauge.rivals.get(one, []):
                 upper = (self.levels[one][at], ends[one][at])
                 lower = (self.levels[other][at], ends.get(other, self.levels[other])[at])
-                found = least_of([found, ordered_periods(upper, lower, period)])
+                # Uneven lines are found in few rounds; if there are more of them, they are not looked at one by one.
+                even = periods * period > MOST_ROUNDS or self.is_even(one, at) and self.is_even(other, at)
+                found = least_of([found, ordered_periods(upper, lower, period, even)])
         return found
+
+    def is_even(self, outlet, at):
+        """Tell whether a port now grows by the same number at all points of a round."""
+        return self.gauge.is_even(outlet, at, self.counts[outlet])
 
     def periods_ahead(self, last, period, block):
         """Return how many of so many periods, and a last one, are ahead of the first one with a size above the best."""
@@ -235,16 +241,17 @@ class Survey:
         return None if other.number is None else other.best
 
 
-def ordered_periods(one, other, period):
+def ordered_periods(one, other, period, even):
     """Return for how many periods, one at least, one of two levels stays above the other; None for no end of them.
 
-    Each is a pair: the level now, and a period later. If both grow alike, their order at each point never changes.
+    Each is a pair: the level now, and a period later. If both grow evenly and alike, their order at each point of a
+    round never changes.
     """
     growth = (one[1] - one[0]) - (other[1] - other[0])
     above = one[0] - other[1]
     below = other[0] - one[1]
     if growth == 0:
-        return None
+        return None if even or above >= 0 or below >= 0 else 1
     if above >= 0:
         return sign_turn(above, growth)
     if below >= 0:

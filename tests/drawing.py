@@ -195,3 +195,43 @@ def splitting_net(draw):
             return Net(splitting_nodes(draw))
         except (LimitExceeded, InvalidNet):
             continue
+
+
+def overtaking_nodes(draw):
+    """Return nodes in which several ways lead from an outlet to the same split, at different speeds."""
+    letters = iter("bcdefghijklmnop")
+    nodes = [("a", "span", (0, 1, draw.choice((50, 300, 10 ** 20))), []), ("s", "split", (), ["a"])]
+    if draw.random() < 0.6:
+        nodes[0] = ("a", "count", (0, 1), [])
+
+    def add(lower):
+        kind, parameters = draw.choice((
+            ("scale", (1, 0)), ("step", (draw.randint(1, 4),)), ("drop", (draw.randint(0, 60),)), ("stutter", (draw.randint(2, 3),)),
+            ("keep", (("mod", draw.randint(2, 3), [0]),)), ("take", (draw.randint(1, 300),)), ("ahead", (draw.randint(1, 20),)),
+            ("batch", (draw.randint(1, 5), "last", "give"))))
+        nodes.append((next(letters), kind, parameters, [lower]))
+        return nodes[-1][0]
+
+    nodes.append(("t", "split", (), [add("s") if draw.random() < 0.7 else "s"]))
+    inputs = ["t"]
+    for _ in range(draw.randint(2, 3)):
+        lower = draw.choice("stt")
+        for _ in range(draw.randint(0, 2)):
+            lower = add(lower)
+        inputs.append(lower)
+    kind, parameters = draw.choice((("zip", ("sum",)), ("turns", ()), ("turns", ()), ("chain", ()), ("longest", (0, "sum"))))
+    nodes.append(("z", kind, parameters, inputs))
+    if draw.random() < 0.5:
+        nodes.append(("y", "split", (), ["z"]))
+        add("y")
+        add("y")
+    return nodes
+
+
+def overtaking_net(draw):
+    """Return such a net that keeps the limits."""
+    while True:
+        try:
+            return Net(overtaking_nodes(draw))
+        except (LimitExceeded, InvalidNet):
+            continue
