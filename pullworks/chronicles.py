@@ -3,8 +3,8 @@
 A place is that of places.py; steps of pulls and closes have places, and so does what is right behind a pull.
 """
 
-from pullworks.moments import counts_behind, reads_by
 from pullworks.kinds import SOURCES
+from pullworks.moments import counts_behind, reads_by
 from pullworks.places import close_place, first_stop, many_ahead, many_in, pull_place, pulls_ahead
 from pullworks.schedules import end_state, written
 

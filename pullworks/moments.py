@@ -38,7 +38,7 @@ def used_by(tape, place, pulls):
 def uses_within(plan, name):
     """Return the numbers of answered pulls by each port of the nodes that are in the pull that is never answered."""
     found = {}
-    while name is not None:
+    while True:
         last = plan.tapes[name].stretches[-1]
         lower = None
         for place, many in last.uses[0]:
@@ -50,7 +50,6 @@ def uses_within(plan, name):
         # The last one of these pulls is the one that is not answered.
         found[(name, lower)] -= 1
         name = plan.inputs[name][lower]
-    return found
 
 
 def reads_by(plan, source, counts):

@@ -46,7 +46,7 @@ def sort_of_hole(kind, at, part):
 def fitting_ranges(kind, parameters, record):
     """Return a list of ranges (least, greatest) for a record."""
     if kind in TESTED:
-        return [test_range(kind, parameters[0][0], record)]
+        return [bound_range(kind, parameters[0][0], record)]
     if kind == "scale":
         return scale_ranges(parameters, record)
     make = MAKERS[kind]
@@ -149,7 +149,7 @@ def scale_ranges(parameters, record):
     return [(ANY_LOW, ANY_HIGH)]
 
 
-def test_range(kind, word, record):
+def bound_range(kind, word, record):
     """Return the range of a bound with which some items pass, and others do not."""
     passing, failing = sorted_out(kind, record)
     if word == "from":

@@ -6,10 +6,9 @@ from pullworks.checks import check_number, check_outlet
 from pullworks.errors import InvalidCall, InvalidName, InvalidSchedule, LimitExceeded
 from pullworks.gauges import Block, Gauge, common_rounds, rounds_to_come_back
 from pullworks.lines import least_of
-from pullworks.nets import MOST_LOAD, load
 from pullworks.places import ever_place, first_stop, pull_place, pulls_in
 from pullworks.plans import plan_of
-from pullworks.schedules import check_schedule, check_under, end_state, nesting
+from pullworks.schedules import check_schedule, check_under, end_state
 from pullworks.surveys import Survey
 from pullworks.wholes import is_between
 from pullworks.words import is_one_of
@@ -69,8 +68,8 @@ def surveyed(gauge, steps, best, only_first):
 
 def pulls_within(net, steps, split, outlet, bound):
     """Return how often an outlet can be pulled behind a schedule with no size above a bound, None without end."""
+    # One more pull passes no limit: the load of a net has the limit of a schedule that is not nested.
     check_schedule(net, steps)
-    check_further_pull(net, steps)
     plan = plan_of(net)
     check_split(plan, split)
     check_outlet(plan, outlet)
@@ -86,12 +85,6 @@ def pulls_within(net, steps, split, outlet, bound):
     if survey.number is not None:
         return survey.number
     return survey.gone if survey.over else None
-
-
-def check_further_pull(net, steps):
-    """Raise LimitExceeded as for a schedule with one more pull."""
-    if load(net, 1 + nesting(steps)) > MOST_LOAD:
-        raise LimitExceeded(MOST_LOAD)
 
 
 def standing_survey(gauge, state, bound):

@@ -20,16 +20,17 @@ def read(many):
 def sums_of(uses):
     """Return for each input the numbers of pulls on it in the first 0, 1, 2 and so on of some uses."""
     sums = {place: [0] for use in uses for place, _ in use}
-    if len(sums) == 1:
-        # Most nodes have one input, and some very many lines.
-        for row in sums.values():
-            for use in uses:
-                row.append(row[-1] + use[0][1] if use else row[-1])
+    places = list(sums)
+    if len(places) == 1:
+        # Most nodes have one input, and some of them very many lines.
+        row = sums[places[0]]
+        for use in uses:
+            row.append(row[-1] + use[0][1] if use else row[-1])
         return sums
     for use in uses:
         pulls = dict(use)
-        for place, row in sums.items():
-            row.append(row[-1] + pulls.get(place, 0))
+        for place in places:
+            sums[place].append(sums[place][-1] + pulls.get(place, 0))
     return sums
 
 

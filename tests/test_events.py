@@ -94,6 +94,22 @@ class HandTest(unittest.TestCase):
         number, event = event_of(Net(nodes), steps, "read", "a", 10 ** 25)
         self.assertEqual((event, event_at(Net(nodes), steps, number)), (("read", "a", item(10 ** 25)),) * 2)
 
+    def test_many_pulls_the_last_of_which_is_never_answered(self):
+        for many, lost in ((7, 10), (10 ** 20, FAR)):
+            nodes = [("a", "count", (0, 1), []), ("b", "keep", (("below", many),), ["a"]), ("d", "drop", (lost,), ["b"])]
+            split = [*nodes[:2], ("s", "split", (), ["b"]), ("d", "drop", (lost,), ["s"]), ("r", "scale", (1, 0), ["s"])]
+            for found, steps, given in ((Net(nodes), [("pull", "d", 2)], 0), (Net(split), [("pull", "d", 2)], 0),
+                                        (Net(split), [("pull", "r", many - 1), ("pull", "d", 2)], many - 1)):
+                for number in (2 * given, 2 * given + 1, many + given, many + given + 1, 3 * many + 7, FAR):
+                    item_read = item(number - given)
+                    self.assertEqual(event_at(found, steps, number), ("read", "a", item_read), (many, number))
+                    self.assertEqual(event_of(found, steps, "read", "a", item_read[1]), (number, ("read", "a", item_read)))
+                    self.assertEqual(state_behind(found, steps, number), ([("a", item_read[1] + 1)], [], "d"))
+                start = max(2 * given, many - 2)
+                self.assertEqual(events_from(found, steps, start, 9),
+                                 [("read", "a", item(start - given + at)) for at in range(9)])
+                self.assertIs(count_events(found, steps, "read", "a"), None)
+
     def test_far_events(self):
         wide = Net([("a", "count", (0, 1), []), ("s", "step", (10 ** 20,), ["a"])])
         steps = [("repeat", FAR, [("pull", "s", 7)])]

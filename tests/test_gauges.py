@@ -2,6 +2,7 @@
 
 import random
 import unittest
+from unittest import mock
 
 from drawing import drawn_net, drawn_steps, overtaking_net, splitting_net, unrolled
 from makers import FAR
@@ -45,7 +46,16 @@ class GaugeTest(unittest.TestCase):
         self.assertGreater(done_ports, 800)
 
     def test_sizes_where_ways_overtake(self):
-        for seed in range(160):
+        self.sizes(range(160))
+
+    def test_sizes_without_a_look_at_each_round(self):
+        # Outlets that overtake each other in many rounds are looked at at some points only: with no rounds looked at one by
+        # one, few rounds are treated so, too.
+        with mock.patch("pullworks.surveys.MOST_ROUNDS", 0):
+            self.sizes(range(1000, 1120))
+
+    def sizes(self, seeds):
+        for seed in seeds:
             draw = random.Random(3000 + seed)
             net = overtaking_net(draw)
             steps = [("pull", draw.choice(outlets(net)), draw.randint(0, 30)), ("repeat", draw.randint(1, 50),
