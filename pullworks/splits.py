@@ -6,7 +6,7 @@ from pullworks.checks import check_number, check_outlet
 from pullworks.errors import InvalidCall, InvalidName, InvalidSchedule, LimitExceeded
 from pullworks.gauges import Block, Gauge, common_rounds, rounds_to_come_back
 from pullworks.lines import least_of
-from pullworks.places import ever_place, first_stop, pull_place, pulls_in
+from pullworks.places import ever_place, first_stop, pull_place
 from pullworks.plans import plan_of
 from pullworks.schedules import check_schedule, check_under, end_state
 from pullworks.surveys import Survey

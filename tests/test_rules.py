@@ -5,7 +5,8 @@ import random
 import time
 import unittest
 
-from drawing import drawn_net, parameters_of, test_of
+from drawing import parameters_of
+from drawing import test_of as drawn_test
 from makers import FAR, nots, strange_values
 from plain import PlainMachine
 
@@ -113,14 +114,12 @@ class HandTest(unittest.TestCase):
     def test_sunk_tests(self):
         for seed in range(400):
             draw = random.Random(seed)
-            test = test_of(draw)
+            test = drawn_test(draw)
             a, b = draw.choice([-7, -3, -2, -1, 1, 2, 5]), draw.randint(-9, 9)
             lower, upper = nodes_behind("sink", ("keep", (test,)), ("scale", (a, b)))
             self.assertEqual(upper, ("scale", (a, b)))
-            plain = PlainMachine([COUNT])
             for item in range(-40, 41):
                 self.assertEqual(self.passes(lower[1][0], item), self.passes(test, a * item + b), (test, a, b, item))
-            del plain
             self.assertEqual(self.form(lower[1][0]), self.form(test))
 
     def passes(self, test, item):

@@ -5,7 +5,7 @@ import random
 import unittest
 
 from drawing import drawn_net, drawn_steps, splitting_net, unrolled
-from makers import FAR, tower
+from makers import FAR
 from plain import PlainMachine
 from recording import done
 
