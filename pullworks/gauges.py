@@ -101,6 +101,28 @@ def shut_by(steps):
     return found
 
 
+def corners(block):
+    """Return the pulls on each outlet ahead of each part of a round, also in the first and the last inner rounds."""
+    found = []
+    ahead = {name: 0 for name in block.growth}
+    for word, outlet, many, inner in block.parts:
+        found.append(ahead)
+        if word == "pull":
+            ahead = added(ahead, {outlet: 1}, many)
+        elif word == "repeat" and many > 0:
+            below = corners(inner)
+            for turn in (0, many - 1):
+                found.extend([added(added(ahead, inner.growth, turn), corner, 1) for corner in below])
+            ahead = added(ahead, inner.growth, many)
+    found.append(ahead)
+    return found
+
+
+def added(pulls, more, times):
+    """Return numbers of pulls to which others are added so many times."""
+    return {name: pulls[name] + more.get(name, 0) * times for name in pulls}
+
+
 def rounds_to_come_back(size, each):
     """Return behind how many rounds of so many pulls a line is met again that is one of so many."""
     return size // gcd(size, each)

@@ -141,9 +141,9 @@ def growth_behind(survey, rounds, period, block):
     """Return by how much the size grows in a period behind so many rounds."""
     if not survey.open_ports:
         return 0
-    survey.skip(rounds, block)
+    survey.skip(rounds, block, survey.levels_behind(rounds, block))
     before = survey.size_now()
-    survey.skip(period, block)
+    survey.skip(period, block, survey.levels_behind(period, block))
     return survey.size_now() - before
 
 

@@ -5,11 +5,14 @@ outlet overtakes another one at a port that both pull, the size at each point of
 numbers that never fall. So it is greatest in the first or in the last period, and only these are looked at.
 """
 
-from pullworks.gauges import common_rounds, rounds_to_come_back
+from pullworks.gauges import common_rounds, corners, rounds_to_come_back
 from pullworks.lines import least_of, sign_turn
 from pullworks.states import State
 
-MOST_ROUNDS = 200
+# So many mixed rounds are looked at one by one; of more of them, about so many at both ends of those between corners.
+MOST_ROUNDS = 60
+MOST_MIXED = 12
+MOST_CORNERS = 100
 
 
 class Survey:
@@ -99,11 +102,12 @@ class Survey:
         left = many
         while left > 0 and not self.over:
             taken = 0 if self.closes_more(block) else self.clean_rounds(block, left)
+            ends = self.levels_behind(taken, block)
             if taken == 0:
                 taken = 1
                 self.go_through(block)
-            elif self.is_low(taken, block):
-                self.skip(taken, block)
+            elif self.is_low(ends):
+                self.skip(taken, block, ends)
             else:
                 taken = self.go_clean(taken, block)
             left -= taken
@@ -132,12 +136,12 @@ class Survey:
                 found = min(found, (bound - here) // each)
         return found
 
-    def is_low(self, many, block):
-        """Tell whether no size within so many clean rounds can be above the best one."""
+    def is_low(self, ends):
+        """Tell whether no size can be above the best one up to where outlets have these levels."""
         if not self.open_ports:
             return True
         most = max(self.given)
-        for levels in self.levels_behind(many, block).values():
+        for levels in ends.values():
             most = max(most, max(levels))
         return most - self.lowest() <= self.best
 
@@ -149,9 +153,9 @@ class Survey:
                 found[outlet] = self.gauge.heights(outlet, self.counts[outlet] + each * many)
         return found
 
-    def skip(self, many, block):
-        """Count so many clean rounds without a look at them."""
-        for outlet, levels in self.levels_behind(many, block).items():
+    def skip(self, many, block, ends):
+        """Count so many clean rounds, behind which outlets have these levels, without a look at them."""
+        for outlet, levels in ends.items():
             self.lift(outlet, levels)
         for outlet, each in self.growing(block):
             self.counts[outlet] += each * many
@@ -160,7 +164,10 @@ class Survey:
     def go_clean(self, many, block):
         """Do so many clean rounds, or fewer; return how many."""
         period = self.period(block)
-        periods = self.in_order(many // period, period, block)
+        periods, mixed = self.in_order(many // period, period, block)
+        if mixed:
+            wide = max(1, MOST_MIXED // period)
+            period, periods = period * wide, periods // wide
         if periods < 3:
             taken = min(many, max(periods, 1) * period)
             self.repeat_all(taken, block)
@@ -171,7 +178,7 @@ class Survey:
         ahead = periods - 2
         if self.only_first:
             ahead = self.periods_ahead(ahead, period, block)
-        self.skip(ahead * period, block)
+        self.skip(ahead * period, block, self.levels_behind(ahead * period, block))
         if ahead < periods - 1:
             self.repeat_all(period, block)
         return periods * period
@@ -194,23 +201,54 @@ class Survey:
         return common_rounds(sizes)
 
     def in_order(self, periods, period, block):
-        """Return for how many of so many periods no outlet overtakes another one at a port that both pull."""
+        """Return for how many of so many periods no outlet overtakes another one at a port that both pull.
+
+        If outlets overtake each other in each of very many rounds, they are mixed: then the periods are those up to the
+        first one in which another outlet leads at one of the corners of a round. In so many rounds the size is greatest
+        in the first or the last ones, but for what is lost by rounding, so more of them are looked at.
+        """
         if periods < 3:
-            return periods
+            return periods, False
         ends = self.levels_behind(period, block)
         found = periods
+        mixed = False
         for one, _ in self.growing(block):
             for other, at in self.gauge.rivals.get(one, []):
                 upper = (self.levels[one][at], ends[one][at])
                 lower = (self.levels[other][at], ends.get(other, self.levels[other])[at])
-                # Uneven lines are found in few rounds; if there are more of them, they are not looked at one by one.
-                even = periods * period > MOST_ROUNDS or self.is_even(one, at) and self.is_even(other, at)
-                found = least_of([found, ordered_periods(upper, lower, period, even)])
-        return found
+                ordered = ordered_periods(upper, lower)
+                if ordered == 0 and grow_alike(upper, lower) and self.is_even(one, at) and self.is_even(other, at):
+                    continue
+                if ordered == 0:
+                    left = least_of([periods, mixed_periods(upper, lower)])
+                    if left * period <= MOST_ROUNDS:
+                        return 1, False
+                    mixed = True
+                    ordered = least_of([left, self.cornered(one, other, at, period, block)])
+                found = least_of([found, ordered])
+        return found, mixed
 
     def is_even(self, outlet, at):
         """Tell whether a port now grows by the same number at all points of a round."""
         return self.gauge.is_even(outlet, at, self.counts[outlet])
+
+    def cornered(self, one, other, at, period, block):
+        """Return in how many periods the first outlet takes or loses the lead at a corner of a round, None for none."""
+        found = None
+        for corner in corners(block)[:MOST_CORNERS]:
+            now = self.lead(one, other, at, corner, 0, block)
+            turn = sign_turn(now, self.lead(one, other, at, corner, period, block) - now)
+            if turn is not None and turn > 0:
+                found = least_of([found, turn])
+        return found
+
+    def lead(self, one, other, at, corner, rounds, block):
+        """Return by how much an outlet leads another one at a port, at a corner of a round so many rounds ahead."""
+        found = []
+        for outlet in (one, other):
+            more = 0 if outlet in self.shut.closed else corner[outlet] + rounds * block.growth[outlet]
+            found.append(self.gauge.courses[outlet][at].result(self.counts[outlet] + more)[1])
+        return found[0] - found[1]
 
     def periods_ahead(self, last, period, block):
         """Return how many of so many periods, and a last one, are ahead of the first one with a size above the best."""
@@ -236,28 +274,32 @@ class Survey:
     def peak(self, periods, period, block):
         """Return the greatest size above the best in the period behind so many ones, None if there is none."""
         other = self.looking_on()
-        other.skip(periods * period, block)
+        other.skip(periods * period, block, other.levels_behind(periods * period, block))
         other.repeat_all(period, block)
         return None if other.number is None else other.best
 
 
-def ordered_periods(one, other, period, even):
-    """Return for how many periods, one at least, one of two levels stays above the other; None for no end of them.
+def grow_alike(one, other):
+    """Tell whether two levels grow by the same number; then their order at each point of a round never changes.
 
-    Each is a pair: the level now, and a period later. If both grow evenly and alike, their order at each point of a
-    round never changes.
+    A level is a pair: what it is now, and a period later. Both are to grow evenly.
     """
+    return one[1] - one[0] == other[1] - other[0]
+
+
+def ordered_periods(one, other):
+    """Return for how many periods one of two levels stays above the other; None without end, 0 if neither does."""
     growth = (one[1] - one[0]) - (other[1] - other[0])
     above = one[0] - other[1]
     below = other[0] - one[1]
-    if growth == 0:
-        return None if even or above >= 0 or below >= 0 else 1
     if above >= 0:
         return sign_turn(above, growth)
-    if below >= 0:
-        return sign_turn(below, -growth)
-    turn = sign_turn(above, growth) if growth > 0 else sign_turn(below, -growth)
-    if turn * period <= MOST_ROUNDS:
-        return 1
-    middle = sign_turn(one[0] - other[0], growth)
-    return turn if middle is None or middle < 1 else min(turn, middle)
+    return sign_turn(below, -growth) if below >= 0 else 0
+
+
+def mixed_periods(one, other):
+    """Return behind how many periods one of two levels will stay above the other, as none does now; None for never."""
+    if grow_alike(one, other):
+        return None
+    growth = (one[1] - one[0]) - (other[1] - other[0])
+    return sign_turn(one[0] - other[1], growth) if growth > 0 else sign_turn(other[0] - one[1], -growth)
