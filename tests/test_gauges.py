@@ -18,6 +18,42 @@ from pullworks.schedules import check_schedule
 from pullworks.splits import first_above, greatest_size, places
 
 
+def mixing_net(draw, far):
+    """Return a net of a split above a split, with two or three outlets over the upper one."""
+    nodes = [("a", "count", (0, 1), []), ("s", "split", (), ["a"])]
+    top = "s"
+    if draw.random() < 0.3:
+        kind, parameters = draw.choice((("step", (2,)), ("drop", (draw.randint(1, 60),)), ("stutter", (2,)),
+                                        ("keep", (("mod", 3, [0, 1]),))))
+        nodes.append(("b", kind, parameters, ["s"]))
+        top = "b"
+    nodes.append(("t", "split", (), [top]))
+    for name in ("l", "m", "r") if draw.random() < 0.7 else ("l", "m", "n", "r"):
+        kind, parameters = draw.choice((("scale", (1, 0)), ("scale", (1, 0)), ("step", (2,)), ("drop", (draw.randint(1, far),)),
+                                        ("stutter", (2,)), ("ahead", (draw.randint(1, 20),))))
+        nodes.append((name, kind, parameters, ["s" if name == "r" else "t"]))
+    try:
+        net = Net(nodes)
+        check_schedule(net, [("repeat", 1, [("repeat", 1, [("pull", "l", 1)])])])
+        return net
+    except LimitExceeded:
+        return mixing_net(draw, far)
+
+
+def mixing_steps(draw, names, many):
+    """Return steps that pull each outlet about the same far number of times, so that they overtake each other."""
+    each = draw.randint(1, 3)
+    steps = []
+    for name in draw.sample(names, len(names)):
+        if draw.random() < 0.7:
+            steps.append(("repeat", many, [("pull", name, max(1, each + draw.choice((0, 0, 0, 0, 1, -1))))]))
+        else:
+            steps.append(("pull", name, many * each + draw.randint(-3, 3)))
+        if draw.random() < 0.5:
+            steps.append(("pull", draw.choice(names), draw.randint(1, 3)))
+    return steps
+
+
 class GaugeTest(unittest.TestCase):
 
     def given(self, plan, gauge, outlet, pulls):
@@ -51,8 +87,62 @@ class GaugeTest(unittest.TestCase):
     def test_sizes_without_a_look_at_each_round(self):
         # Outlets that overtake each other in many rounds are looked at at some points only: with no rounds looked at one by
         # one, few rounds are treated so, too.
-        with mock.patch("pullworks.surveys.MOST_ROUNDS", 0):
+        with mock.patch("pullworks.surveys.MOST_ROUNDS", 0), mock.patch("pullworks.surveys.MOST_MIXED", 1):
             self.sizes(range(1000, 1120))
+
+    def test_outlets_that_overtake_each_other_in_each_of_many_rounds(self):
+        sizes = 0
+        for seed in range(250):
+            draw = random.Random(seed)
+            many, rounds = draw.choice((500, 10 ** 6, 10 ** 9 + 7)), draw.choice((1000, 10 ** 6, 10 ** 9))
+            net = mixing_net(draw, many * rounds // 3)
+            names = outlets(net)
+            body = mixing_steps(draw, names, many)
+            first = ("pull", draw.choice(names), many * draw.randint(0, 300))
+            for split in "st":
+                where = (seed, net.node_list(), first, rounds, body, split)
+                size, number = greatest_size(net, [first, ("repeat", rounds, body)], split)
+                cuts = [0, *sorted(draw.randint(0, rounds) for _ in range(4)), rounds]
+                parts = [first, *[("repeat", high - low, body) for low, high in zip(cuts, cuts[1:])]]
+                self.assertEqual(greatest_size(net, parts, split), (size, number), where)
+                if 0 < size <= FAR:
+                    self.assertEqual(first_above(net, parts, split, size - 1), number, where)
+                    bound = draw.randint(0, size - 1)
+                    self.assertEqual(first_above(net, parts, split, bound),
+                                     first_above(net, [first, ("repeat", rounds, body)], split, bound), where)
+                    sizes += 1
+        self.assertGreater(sizes, 300)
+
+    def test_the_same_in_few_rounds(self):
+        with mock.patch("pullworks.surveys.MOST_ROUNDS", 0), mock.patch("pullworks.surveys.MOST_MIXED", 1):
+            for seed in range(120):
+                draw = random.Random(1000 + seed)
+                many = draw.randint(10, 25)
+                net = mixing_net(draw, 900)
+                names = outlets(net)
+                steps = [("pull", draw.choice(names), draw.randint(0, 200)),
+                         ("repeat", draw.randint(10, 30), mixing_steps(draw, names, many))]
+                for split in "st":
+                    sizes = self.sizes_by_courses(net, steps, split)
+                    most = max(sizes)
+                    self.assertEqual(greatest_size(net, steps, split), (most, sizes.index(most)) if most else (0, None),
+                                     (seed, net.node_list(), steps, split))
+                    for bound in {0, most // 2, max(most - 1, 0)}:
+                        first = next((at for at, size in enumerate(sizes) if size > bound), None)
+                        self.assertEqual(first_above(net, steps, split, bound), first, (seed, net.node_list(), steps, split))
+
+    def sizes_by_courses(self, net, steps, split):
+        """Return the size behind each pull, by what each outlet has brought the ports."""
+        gauge = Gauge(plan_of(net), split)
+        counts = {name: 0 for name in outlets(net)}
+        given = [0] * len(gauge.ports)
+        found = []
+        for _, _, _, outlet in unrolled(steps):
+            counts[outlet] += 1
+            if outlet in gauge.courses:
+                given = [max(pair) for pair in zip(given, gauge.heights(outlet, counts[outlet]))]
+            found.append(max(given) - min(given))
+        return found
 
     def sizes(self, seeds):
         for seed in seeds:
