@@ -3,7 +3,7 @@
 from math import gcd, lcm
 
 from pullworks.courses import ahead_of, lower_course, node_course, steady_course
-from pullworks.lines import less
+from pullworks.lines import less, seen_from
 from pullworks.places import pulls_in
 from pullworks.tapes import Tape
 
@@ -23,7 +23,6 @@ class Gauge:
         for outlet in plan.outlets:
             if split in plan.below[outlet]:
                 self.courses[outlet] = [self.port_course(outlet, user, place) for user, place in self.ports]
-        self.rivals = {outlet: self.rivals_of(outlet) for outlet in self.courses}
 
     def port_course(self, outlet, user, place):
         """Return the course of a port for the pulls on an outlet, None if no way leads there."""
@@ -33,19 +32,6 @@ class Gauge:
         pulls = steady_course(0, None if never is None else never + 1)
         course = lower_course(node_course(self.plan, outlet, user, pulls), self.plan.tapes[user], place)
         return capped(course, self.plan.tapes[self.split].stop("end"))
-
-    def rivals_of(self, outlet):
-        """Return (other outlet, index of a port) for the ports that an outlet and other ones pull."""
-        found = []
-        for at, course in enumerate(self.courses[outlet]):
-            others = [other for other in self.courses if other != outlet and self.courses[other][at] is not None]
-            found.extend([(other, at) for other in others if course is not None])
-        return found
-
-    def is_even(self, outlet, at, pulls):
-        """Tell whether a port grows alike on all lines among which it is behind so many pulls on an outlet."""
-        lines = self.courses[outlet][at].stretch_of(pulls).lines
-        return all([growth == lines[0][1] for _, growth in lines])
 
     def heights(self, outlet, pulls):
         """Return what each port has been given behind so many pulls on an outlet alone."""
@@ -61,8 +47,24 @@ def capped(course, bound):
         rest = None if many is None else less(stretch.many, many)
         if rest != 0 and many is not None:
             found.give(rest, [(bound, 0)], [()])
+    for stretch in found.stretches:
+        # The fewer lines there are, the sooner rounds come back to the same ones.
+        stretch.lines = fewest_lines(stretch.many, stretch.lines)
+        stretch.uses = [()] * len(stretch.lines)
     found.settle()
     return found
+
+
+def fewest_lines(many, lines):
+    """Return the lines of so many items on as few lines as may be."""
+    size = len(lines)
+    wide = lines if many == size else lines + seen_from(lines, size, size)
+    values = [value for value, _ in wide]
+    for few in [number for number in range(1, size) if size % number == 0]:
+        growths = [high - low for low, high in zip(values, values[few:])]
+        if all([growths[at] == growths[at - few] for at in range(few, len(growths))]):
+            return list(zip(values[:few], growths[:few]))
+    return lines
 
 
 class Block:
@@ -77,6 +79,49 @@ class Block:
         self.pulled = [(name, self.growth[name]) for name in names if self.growth[name] > 0]
         self.each = sum([each for _, each in self.pulled])
         self.shut = shut_by(steps)
+        self.known = None
+
+    def spots(self):
+        """Return the list of the spots of a round, in the order in which they are pulled first."""
+        if self.known is None:
+            self.known = spots_in(self)
+        return self.known
+
+
+class Spot:
+    """A place in a round at which an outlet is pulled, once in each of the inner rounds around it.
+
+    The turns are tuples (number of rounds, block), one for each repeat within the round, from the outer to the inner
+    one. In the round, up to the first pull here and with it, each outlet has been pulled so often; before it there are
+    so many pulls in all.
+    """
+
+    def __init__(self, outlet, turns, pulls, before):
+        self.outlet = outlet
+        self.turns = turns
+        self.pulls = pulls
+        self.before = before
+
+
+def spots_in(block):
+    """Return the list of the spots of a round of a block."""
+    found = []
+    pulls = {name: 0 for name in block.growth}
+    before = 0
+    for word, outlet, many, inner in block.parts:
+        if word == "close" or many == 0:
+            continue
+        if inner is None:
+            pulls = added(pulls, {outlet: 1}, 1)
+            found.append(Spot(outlet, [], pulls, before))
+            before += 1
+            continue
+        for spot in inner.spots():
+            turns = [(many, inner)] + spot.turns if many > 1 else spot.turns
+            found.append(Spot(spot.outlet, turns, added(pulls, spot.pulls, 1), before + spot.before))
+        pulls = added(pulls, inner.growth, many)
+        before += inner.each * many
+    return found
 
 
 def part_of(step, names):
@@ -101,23 +146,6 @@ def shut_by(steps):
     return found
 
 
-def corners(block):
-    """Return the pulls on each outlet ahead of each part of a round, also in the first and the last inner rounds."""
-    found = []
-    ahead = {name: 0 for name in block.growth}
-    for word, outlet, many, inner in block.parts:
-        found.append(ahead)
-        if word == "pull":
-            ahead = added(ahead, {outlet: 1}, many)
-        elif word == "repeat" and many > 0:
-            below = corners(inner)
-            for turn in (0, many - 1):
-                found.extend([added(added(ahead, inner.growth, turn), corner, 1) for corner in below])
-            ahead = added(ahead, inner.growth, many)
-    found.append(ahead)
-    return found
-
-
 def added(pulls, more, times):
     """Return numbers of pulls to which others are added so many times."""
     return {name: pulls[name] + more.get(name, 0) * times for name in pulls}
@@ -133,4 +161,12 @@ def common_rounds(numbers):
     found = 1
     for number in numbers:
         found = lcm(found, number)
+    return found
+
+
+def tuples_below(sizes):
+    """Return the ascending list of all tuples of numbers from 0 on that are below some sizes."""
+    found = [()]
+    for size in sizes:
+        found = [numbers + (number,) for numbers in found for number in range(size)]
     return found

@@ -4,7 +4,7 @@ from math import gcd
 
 from pullworks.checks import check_number, check_outlet
 from pullworks.errors import InvalidCall, InvalidName, InvalidSchedule, LimitExceeded
-from pullworks.gauges import Block, Gauge, common_rounds, rounds_to_come_back
+from pullworks.gauges import Block, Gauge, common_rounds, rounds_to_come_back, tuples_below
 from pullworks.lines import least_of
 from pullworks.places import ever_place, first_stop, pull_place
 from pullworks.plans import plan_of
@@ -81,7 +81,10 @@ def pulls_within(net, steps, split, outlet, bound):
     if outlet in survey.shut.closed:
         return 0 if survey.size_now() > bound else None
     further = Block([("pull", outlet, 1)], plan.outlets)
-    survey.go_rounds(far_rounds(gauge, further, survey.counts, bound)[0], further)
+    rounds = far_rounds(gauge, further, survey.counts, bound)[0]
+    # A field is looked at for sizes above all those before, but the size ahead of the first pull does not matter.
+    survey.pull_once(outlet)
+    survey.go_rounds(rounds, further)
     if survey.number is not None:
         return survey.number
     return survey.gone if survey.over else None
@@ -204,7 +207,7 @@ def way_to(gauge, names, goal):
     start = tuple([0 for _ in names])
     best = {start: (0, None)}
     levels = [levels_up_to(gauge, name, many) for name, many in zip(names, goal)]
-    for counts in counts_up_to(goal)[1:]:
+    for counts in tuples_below([many + 1 for many in goal])[1:]:
         size = size_of([row[count] for row, count in zip(levels, counts)], len(gauge.ports))
         found = []
         for at, count in enumerate(counts):
@@ -219,14 +222,6 @@ def way_to(gauge, names, goal):
         order.append(names[at])
         counts = counts[:at] + (counts[at] - 1,) + counts[at + 1:]
     return best[goal][0], order[::-1]
-
-
-def counts_up_to(goal):
-    """Return the ascending list of all tuples of numbers up to those of a tuple."""
-    found = [()]
-    for many in goal:
-        found = [counts + (count,) for counts in found for count in range(many + 1)]
-    return found
 
 
 def levels_up_to(gauge, outlet, many):

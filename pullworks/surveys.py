@@ -1,18 +1,14 @@
 """Surveys of a schedule: how great a split becomes, and behind which pull.
 
-Rounds in which all ports stay on the lines of their courses come back to these lines after a period. As long as no
-outlet overtakes another one at a port that both pull, the size at each point of a round grows from period to period by
-numbers that never fall. So it is greatest in the first or in the last period, and only these are looked at.
+Rounds in which all ports stay on the lines of their courses are a field, which is looked at all at once. Where a port
+comes to other lines, the round in which it does so is gone through, and so are inner rounds.
 """
 
-from pullworks.gauges import common_rounds, corners, rounds_to_come_back
-from pullworks.lines import least_of, sign_turn
+from pullworks.fields import Field, first_lead, greatest_lead
 from pullworks.states import State
 
-# So many mixed rounds are looked at one by one; of more of them, about so many at both ends of those between corners.
-MOST_ROUNDS = 60
-MOST_MIXED = 12
-MOST_CORNERS = 100
+# So few pulls are done one by one sooner than all at once.
+MOST_SINGLE = 20
 
 
 class Survey:
@@ -109,7 +105,7 @@ class Survey:
             elif self.is_low(ends):
                 self.skip(taken, block, ends)
             else:
-                taken = self.go_clean(taken, block)
+                self.go_clean(taken, block, ends)
             left -= taken
 
     def closes_more(self, block):
@@ -161,145 +157,19 @@ class Survey:
             self.counts[outlet] += each * many
         self.gone += many * block.each
 
-    def go_clean(self, many, block):
-        """Do so many clean rounds, or fewer; return how many."""
-        period = self.period(block)
-        periods, mixed = self.in_order(many // period, period, block)
-        if mixed:
-            wide = max(1, MOST_MIXED // period)
-            period, periods = period * wide, periods // wide
-        if periods < 3:
-            taken = min(many, max(periods, 1) * period)
-            self.repeat_all(taken, block)
-            return taken
-        self.repeat_all(period, block)
-        if self.over:
-            return period
-        ahead = periods - 2
+    def go_clean(self, many, block, ends):
+        """Do so many clean rounds, behind which outlets have these levels."""
+        if many * block.each <= MOST_SINGLE:
+            for _ in range(many):
+                self.go_through(block)
+            return
+        patches = Field(self, many, block, ends).patches(self.best)
         if self.only_first:
-            ahead = self.periods_ahead(ahead, period, block)
-        self.skip(ahead * period, block, self.levels_behind(ahead * period, block))
-        if ahead < periods - 1:
-            self.repeat_all(period, block)
-        return periods * period
-
-    def repeat_all(self, many, block):
-        """Do so many rounds one by one."""
-        for _ in range(many):
-            if self.over:
-                return
-            self.go_through(block)
-
-    def period(self, block):
-        """Return in how many clean rounds all ports come back to their lines."""
-        sizes = []
-        for outlet, each in self.growing(block):
-            for course in self.gauge.courses.get(outlet, []):
-                if course is not None:
-                    stretch = course.stretch_of(self.counts[outlet])
-                    sizes.append(rounds_to_come_back(len(stretch.lines), each))
-        return common_rounds(sizes)
-
-    def in_order(self, periods, period, block):
-        """Return for how many of so many periods no outlet overtakes another one at a port that both pull.
-
-        If outlets overtake each other in each of very many rounds, they are mixed: then the periods are those up to the
-        first one in which another outlet leads at one of the corners of a round. In so many rounds the size is greatest
-        in the first or the last ones, but for what is lost by rounding, so more of them are looked at.
-        """
-        if periods < 3:
-            return periods, False
-        ends = self.levels_behind(period, block)
-        found = periods
-        mixed = False
-        for one, _ in self.growing(block):
-            for other, at in self.gauge.rivals.get(one, []):
-                upper = (self.levels[one][at], ends[one][at])
-                lower = (self.levels[other][at], ends.get(other, self.levels[other])[at])
-                ordered = ordered_periods(upper, lower)
-                if ordered == 0 and grow_alike(upper, lower) and self.is_even(one, at) and self.is_even(other, at):
-                    continue
-                if ordered == 0:
-                    left = least_of([periods, mixed_periods(upper, lower)])
-                    if left * period <= MOST_ROUNDS:
-                        return 1, False
-                    mixed = True
-                    ordered = least_of([left, self.cornered(one, other, at, period, block)])
-                found = least_of([found, ordered])
-        return found, mixed
-
-    def is_even(self, outlet, at):
-        """Tell whether a port now grows by the same number at all points of a round."""
-        return self.gauge.is_even(outlet, at, self.counts[outlet])
-
-    def cornered(self, one, other, at, period, block):
-        """Return in how many periods the first outlet takes or loses the lead at a corner of a round, None for none."""
-        found = None
-        for corner in corners(block)[:MOST_CORNERS]:
-            now = self.lead(one, other, at, corner, 0, block)
-            turn = sign_turn(now, self.lead(one, other, at, corner, period, block) - now)
-            if turn is not None and turn > 0:
-                found = least_of([found, turn])
-        return found
-
-    def lead(self, one, other, at, corner, rounds, block):
-        """Return by how much an outlet leads another one at a port, at a corner of a round so many rounds ahead."""
-        found = []
-        for outlet in (one, other):
-            more = 0 if outlet in self.shut.closed else corner[outlet] + rounds * block.growth[outlet]
-            found.append(self.gauge.courses[outlet][at].result(self.counts[outlet] + more)[1])
-        return found[0] - found[1]
-
-    def periods_ahead(self, last, period, block):
-        """Return how many of so many periods, and a last one, are ahead of the first one with a size above the best."""
-        low = -1
-        high = last
-        worth = self.peak(last, period, block)
-        if worth is None:
-            return last + 1
-        while high - low > 1:
-            lower = self.peak(high - 1, period, block)
-            if lower is None:
-                return high
-            # The greatest sizes of periods lie on or above the line through these two.
-            guess = high - 1 - (lower - self.best - 1) // max(worth - lower, 1)
-            guess = guess if guess > low else (low + high) // 2
-            found = self.peak(guess, period, block)
-            if found is None:
-                low = guess
-            else:
-                high, worth = guess, found
-        return high
-
-    def peak(self, periods, period, block):
-        """Return the greatest size above the best in the period behind so many ones, None if there is none."""
-        other = self.looking_on()
-        other.skip(periods * period, block, other.levels_behind(periods * period, block))
-        other.repeat_all(period, block)
-        return None if other.number is None else other.best
-
-
-def grow_alike(one, other):
-    """Tell whether two levels grow by the same number; then their order at each point of a round never changes.
-
-    A level is a pair: what it is now, and a period later. Both are to grow evenly.
-    """
-    return one[1] - one[0] == other[1] - other[0]
-
-
-def ordered_periods(one, other):
-    """Return for how many periods one of two levels stays above the other; None without end, 0 if neither does."""
-    growth = (one[1] - one[0]) - (other[1] - other[0])
-    above = one[0] - other[1]
-    below = other[0] - one[1]
-    if above >= 0:
-        return sign_turn(above, growth)
-    return sign_turn(below, -growth) if below >= 0 else 0
-
-
-def mixed_periods(one, other):
-    """Return behind how many periods one of two levels will stay above the other, as none does now; None for never."""
-    if grow_alike(one, other):
-        return None
-    growth = (one[1] - one[0]) - (other[1] - other[0])
-    return sign_turn(one[0] - other[1], growth) if growth > 0 else sign_turn(other[0] - one[1], -growth)
+            self.number = first_lead(patches, self.best + 1)
+            self.over = self.number is not None
+        else:
+            best = greatest_lead(patches, self.best)
+            if best > self.best:
+                self.best = best
+                self.number = first_lead(patches, best)
+        self.skip(many, block, ends)

@@ -11,7 +11,8 @@ from recording import done
 from pullworks.comparing import first_read_difference
 from pullworks.demands import dearest
 from pullworks.errors import LimitExceeded
-from pullworks.gauges import Gauge
+from pullworks.gauges import Gauge, fewest_lines
+from pullworks.lines import value_at
 from pullworks.nets import Net, outlets
 from pullworks.plans import plan_of
 from pullworks.schedules import check_schedule
@@ -81,13 +82,29 @@ class GaugeTest(unittest.TestCase):
                     done_ports += 1
         self.assertGreater(done_ports, 800)
 
+    def test_fewest_lines(self):
+        self.assertEqual(fewest_lines(None, [(3, 4), (5, 4)]), [(3, 2)])
+        self.assertEqual(fewest_lines(None, [(3, 4), (4, 4)]), [(3, 4), (4, 4)])
+        self.assertEqual(fewest_lines(3, [(3, 0), (4, 0), (5, 0)]), [(3, 1)])
+        self.assertEqual(fewest_lines(3, [(3, 0), (4, 0), (6, 0)]), [(3, 0), (4, 0), (6, 0)])
+        self.assertEqual(fewest_lines(1, [(3, 0)]), [(3, 0)])
+        for seed in range(300):
+            draw = random.Random(seed)
+            lines = [(draw.randint(0, 2), draw.randint(0, 2)) for _ in range(draw.randint(1, 3))]
+            wide = [(value + turn * growth, 3 * growth) for turn in range(3) for value, growth in lines]
+            many = draw.choice((None, len(wide) + 1, 5 * len(wide)))
+            found = fewest_lines(many, wide)
+            self.assertLessEqual(len(found), len(lines), (seed, lines, found))
+            for at in range(40):
+                self.assertEqual(value_at(found, at), value_at(wide, at), (seed, lines, found))
+
     def test_sizes_where_ways_overtake(self):
         self.sizes(range(160))
 
     def test_sizes_without_a_look_at_each_round(self):
-        # Outlets that overtake each other in many rounds are looked at at some points only: with no rounds looked at one by
-        # one, few rounds are treated so, too.
-        with mock.patch("pullworks.surveys.MOST_ROUNDS", 0), mock.patch("pullworks.surveys.MOST_MIXED", 1):
+        # So few pulls are done one by one that rounds are mostly looked at all at once only where there are many: with none
+        # done so, few rounds are looked at so, too.
+        with mock.patch("pullworks.surveys.MOST_SINGLE", 0):
             self.sizes(range(1000, 1120))
 
     def test_outlets_that_overtake_each_other_in_each_of_many_rounds(self):
@@ -114,7 +131,7 @@ class GaugeTest(unittest.TestCase):
         self.assertGreater(sizes, 300)
 
     def test_the_same_in_few_rounds(self):
-        with mock.patch("pullworks.surveys.MOST_ROUNDS", 0), mock.patch("pullworks.surveys.MOST_MIXED", 1):
+        with mock.patch("pullworks.surveys.MOST_SINGLE", 0):
             for seed in range(120):
                 draw = random.Random(1000 + seed)
                 many = draw.randint(10, 25)
