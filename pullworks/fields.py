@@ -116,7 +116,7 @@ class Patch:
                 rounds = max(rounds, -(-lack // row[1]))
         return self.first + rounds * self.steps[0]
 
-    def first_above(self, level):
+    def first_with(self, level):
         """Return the number of the first pull with such a lead, None if there is none."""
         point = first_point(self.box, lowered(self.rows, level))
         if point is None:
@@ -144,7 +144,7 @@ def first_lead(patches, level):
     for number, at in sorted([pair for pair in rated if pair[0] is not None]):
         if found is not None and number >= found:
             return found
-        first = patches[at].first_above(level)
+        first = patches[at].first_with(level)
         if first is not None:
             found = first if found is None else min(found, first)
     return found

@@ -53,17 +53,18 @@ class Rounds:
     Behind i rounds and t further inner ones "m" leads an outlet with the lead (a, b, c) by `height` + a + b * i + c * t, and
     the size of "s" is the least of these. In all rounds, and ahead of them, the outlets are pulled first and then "m", so that
     no size between is greater, and `height` is so much that "m" is always ahead. An outlet is pulled so many times for one
-    read as `times` tells.
+    read as `times` tells. Each round begins with lists of `even` numbers of reads, each by all outlets, that change no lead.
     """
 
-    def __init__(self, leads, rounds, inner, times=None):
+    def __init__(self, leads, rounds, inner, times=None, even=()):
         self.leads = list(leads.values())
         self.rounds, self.inner, self.times = rounds, inner, times or {}
         few = max(1, *[c for _, _, c in self.leads])
         large = inner * max(few - c for _, _, c in [*self.leads, (0, 0, 0)]) + max(abs(b) for _, b, _ in self.leads) + 1
         starts = [a for a, _, _ in self.leads]
         corners = [a + b * i + c * t for a, b, c in self.leads for i in (0, rounds) for t in (0, inner)]
-        self.height = large + max(starts) - min(starts) - min(0, *corners)
+        self.height = max(large, *even, 0) + max(starts) - min(starts) - min(0, *corners)
+        self.even = [("repeat", 1, self.pulls(dict.fromkeys([*leads, "m"], many)) * (20 // (len(leads) + 1))) for many in even]
         self.start = {name: max(starts) - a for name, (a, _, _) in leads.items()}
         self.few = {name: few - c for name, (_, _, c) in leads.items()}
         self.rest = {name: large - inner * self.few[name] - b for name, (_, b, _) in leads.items()}
@@ -75,7 +76,7 @@ class Rounds:
 
     def body(self):
         """Return the steps of a round."""
-        return [("repeat", self.inner, self.pulls(self.few)), *self.pulls(self.rest)]
+        return [*self.even, ("repeat", self.inner, self.pulls(self.few)), *self.pulls(self.rest)]
 
     def steps(self):
         return [*self.pulls(self.start), ("repeat", self.rounds, self.body())]
@@ -83,14 +84,15 @@ class Rounds:
     def number(self, i, t):
         """Return the number of the last pull of so many rounds and inner ones."""
         ahead, few, rest = [sum(step[2] for step in self.pulls(each)) for each in (self.start, self.few, self.rest)]
-        return ahead + i * (self.inner * few + rest) + t * few - 1
+        even = sum(step[2] for part in self.even for step in part[2])
+        return ahead + i * (even + self.inner * few + rest) + (even + t * few if t > 0 else 0) - 1
 
     def size(self, i, t):
         """Return the size behind it."""
         return self.height + min(a + b * i + c * t for a, b, c in self.leads)
 
     def rows(self):
-        """Yield a point, the step to the next one in its row, their number, and the lines of the leads: few rows, or few columns."""
+        """Yield all rows, or all columns if these are fewer: the first point, the step to the next, the last one, and the lines."""
         if self.rounds <= self.inner:
             for i in range(self.rounds + 1):
                 yield (i, 0), (0, 1), self.inner if i < self.rounds else 0, [(a + b * i, c) for a, b, c in self.leads]
@@ -112,9 +114,10 @@ class Rounds:
 
     def first_above(self, bound):
         """Return the number of the first pull with a greater size than a bound that is not below the height."""
-        found = [(self.number(*point), self.size(*point)) for point in self.points(lambda *row: first_over(*row, bound + 1 - self.height))]
+        points = self.points(lambda lines, many: first_over(lines, many, bound + 1 - self.height))
+        number, size = min([(self.number(*point), self.size(*point)) for point in points], default=(None, None))
         # The pulls on "m" up to there come one after another.
-        return min(found)[0] - (min(found)[1] - bound - 1) if found else None
+        return None if size is None else number - (size - bound - 1)
 
 
 def peak_of(lines, many):

@@ -15,18 +15,28 @@ from pullworks.schedules import check_schedule
 from pullworks.splits import endless_size, first_above, greatest_size, order_size, pulls_within
 
 
-def crossing_leads(draw, names, rounds, inner, slope, exact=False):
-    """Return leads the least of which is greatest within the rounds, and the point where the first three are about equal."""
-    at = draw.randint(1, rounds - 1), draw.randint(1, inner - 1)
+def opposed(slopes):
+    """Tell whether so many times the slopes of two or three leads are nothing together: then one falls where others rise."""
+    if len(slopes) == 2:
+        return slopes[0] == (-slopes[1][0], -slopes[1][1]) != (0, 0)
+    turns = [a * d - b * c for (a, b), (c, d) in zip(slopes, slopes[1:] + slopes[:1])]
+    return min(turns) > 0 or max(turns) < 0
+
+
+def drawn_slopes(draw, many, slope):
+    """Return the growths of leads with each round and with each inner one, the first two or three of which are opposed."""
     while True:
-        slopes = [(draw.randint(-slope, slope), draw.randint(-slope, slope)) for _ in names]
-        turns = [a * d - b * c for (a, b), (c, d) in zip(slopes[:3], slopes[1:3] + slopes[:1])]
-        if len(names) == 2:
+        slopes = [(draw.randint(-slope, slope), draw.randint(-slope, slope)) for _ in range(many)]
+        if many == 2:
             slopes[1] = -slopes[0][0], -slopes[0][1]
-            if slopes[0][1]:
-                break
-        elif min(turns) > 0 or max(turns) < 0:
-            break
+        if opposed(slopes[:3]):
+            return slopes
+
+
+def crossing_leads(draw, names, rounds, inner, slope, exact=False):
+    """Return leads the least of which is greatest amid the rounds, and the point where up to three are (about) equal."""
+    at = draw.randint(1, rounds - 1), draw.randint(1, inner - 1)
+    slopes = drawn_slopes(draw, len(names), slope)
     leads = {}
     for place, (name, (b, c)) in enumerate(zip(names, slopes)):
         more = draw.randint(slope, 5 * slope) if place > 2 else 0 if exact else draw.randint(0, slope)
@@ -92,7 +102,7 @@ class NearTest(SizesTest):
             rounds, inner = draw.randint(120, 250), draw.randint(60, 130)
             times = drawn_times(draw, "lrqu"[:draw.choice((2, 3, 3, 3, 4))])
             leads, _ = crossing_leads(draw, list(times), rounds, inner, draw.choice((1, 1, 2)), draw.random() < 0.8)
-            told = Rounds(leads, rounds, inner, times)
+            told = Rounds(leads, rounds, inner, times, [1] * draw.choice((0, 0, 1, 5)))
             net = stuttering_net(times)
             self.assertEqual(self.check_counted(net, told.steps(), "s", (seed, leads)), told.greatest(), seed)
             self.check_told(told, net, (seed, leads))
@@ -220,7 +230,8 @@ class FarTest(SizesTest):
             rounds, inner = draw.choice(((few, many), (many, few)))
             times = drawn_times(draw, "lrqu"[:draw.randint(2, 4)])
             leads, _ = crossing_leads(draw, list(times), rounds, inner, 10 ** draw.choice((0, 0, 1, 5)))
-            self.check_told(Rounds(leads, rounds, inner, times), stuttering_net(times), (seed, leads, rounds, inner))
+            even = draw.choices((1, 7, 10 ** 9 + 9), k=draw.choice((0, 0, 3, 12)))
+            self.check_told(Rounds(leads, rounds, inner, times, even), stuttering_net(times), (seed, leads, rounds, inner, even))
 
     def test_far_ridges(self):
         for seed in range(40):
@@ -235,7 +246,8 @@ class FarTest(SizesTest):
             rounds, inner = 10 ** draw.randint(3, 8), 10 ** draw.randint(3, 8) + 1
             times = drawn_times(draw, "lrqu"[:draw.choice((3, 3, 4))])
             leads, at = crossing_leads(draw, list(times), rounds, inner, 10 ** draw.choice((0, 0, 1, 5)), True)
-            told, net = Rounds(leads, rounds, inner, times), stuttering_net(times)
+            even = draw.choices((1, 10 ** 6), k=draw.choice((0, 0, 14)))
+            told, net = Rounds(leads, rounds, inner, times, even), stuttering_net(times)
             # The three leads are equal there, and the least of them is less at all other points.
             size, number = told.height, told.number(*at)
             self.assertEqual(told.size(*at), size)
@@ -284,7 +296,8 @@ class OtherQuestionsTest(SizesTest):
             outlet, split = draw.choice("lrqm"), draw.choice("sst")
             sizes = counted_sizes(net, [*steps, ("pull", outlet, 3000)], split)
             behind = sizes[-3000:]
-            for bound in {0, behind[0], behind[0] - 1, max(behind) - 1, sizes[-3001], sizes[-3001] - 1, draw.randint(0, max(behind))}:
+            last = sizes[-3001]
+            for bound in {0, last, last - 1, behind[0], behind[0] - 1, max(behind) - 1, draw.randint(0, max(behind))}:
                 if bound >= 0:
                     many = next((at for at, size in enumerate(behind) if size > bound), None)
                     found = pulls_within(net, steps, split, outlet, bound)
@@ -317,7 +330,8 @@ class OtherQuestionsTest(SizesTest):
             draw = random.Random(seed)
             # "r" is far ahead of "l" at first, but slower; "m" is ahead of both as soon as they all have been pulled.
             lead = draw.randint(100, 300)
-            leads = {name: (0, b, draw.randint(-2, 2)) for name, b in (("l", 0), ("r", draw.randint(1, 2)), ("q", draw.choice((0, 1, -1))))}
+            growths = {"l": 0, "r": draw.randint(1, 2), "q": draw.choice((0, 1, -1))}
+            leads = {name: (0, growth, draw.randint(-2, 2)) for name, growth in growths.items()}
             net = leading_net({"l": PLAIN, "r": ("drop", (lead,)), "q": ("drop", (draw.randint(1, lead),))},
                               {"m": ("drop", (lead + draw.randint(0, 60),))})
             body = Rounds(leads, 10, draw.randint(3, 12)).body()
